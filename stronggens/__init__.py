@@ -1,0 +1,1 @@
+"""Stronggens: permutation groups of at most twelve points, with certificates."""

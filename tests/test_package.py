@@ -1,0 +1,150 @@
+"""What holds of the whole package: names and arguments, arguments left alone, new lists, and no state."""
+
+import importlib
+import inspect
+import unittest
+
+from brute import SQUARE, expect, ring
+from stronggens.errors import BadDegree, BadGroup, BadNumber, BadPermutation, BadPoint, GroupError
+
+INTERFACE = {
+    "perms": """identity(degree) product(p,q) inverse(p) power(p,exponent) conjugate(p,g) commutator(p,q) cycles(p)
+        cycle_lengths(p) support(p) element_order(p) sign(p)""",
+    "cycletext": "write(p) read(degree,text)",
+    "roots": "conjugator(p,q) centralizer_size(p) root(p,exponent) root_obstacle(p,exponent)",
+    "programs": "word_value(group,word) run_program(group,program) expand(group,program)",
+    "orbits": """orbit(group,point) orbits(group) is_transitive(group) path(group,one,other)
+        tuple_path(group,one,other) transitivity(group) point_stabilizer(group,point) suborbits(group,point)
+        pair_orbits(group) rank(group) mirror(group,number) self_paired(group)""",
+    "blocks": """is_invariant(group,partition) finest(group,points) joined(one,other) common(one,other)
+        block_systems(group) is_primitive(group) primitivity(group) shows_primitivity(group,value)
+        block_group(group,partition,number) on_blocks(group,partition) kernel_on_blocks(group,partition)
+        above_stabilizer(group,point)""",
+}
+
+PAIRS = ((0, 2), (1, 3))
+SQUARED = (("gen", 0), ("mul", 0, 0))
+
+# For each function some arguments of the right kinds.
+CALLS = {
+    "perms": {
+        "identity": (4,), "product": ((1, 0, 2), (2, 0, 1)), "inverse": ((2, 0, 1),), "power": ((2, 0, 1), 2),
+        "conjugate": ((1, 0, 2), (2, 0, 1)), "commutator": ((1, 0, 2), (2, 0, 1)), "cycles": ((1, 0, 2),),
+        "cycle_lengths": ((1, 0, 2),), "support": ((1, 0, 2),), "element_order": ((1, 0, 2),), "sign": ((1, 0, 2),),
+    },
+    "cycletext": {"write": ((1, 0, 2),), "read": (3, "(0 1)")},
+    "roots": {
+        "conjugator": ((1, 0, 2), (0, 2, 1)), "centralizer_size": ((1, 0, 2),), "root": ((2, 0, 1), 2),
+        "root_obstacle": ((1, 0, 2), 2),
+    },
+    "programs": {"word_value": (SQUARE, (1, -2)), "run_program": (SQUARE, SQUARED), "expand": (SQUARE, SQUARED)},
+    "orbits": {
+        "orbit": (SQUARE, 1), "orbits": (SQUARE,), "is_transitive": (SQUARE,), "path": (SQUARE, 0, 2),
+        "tuple_path": (SQUARE, (0, 1), (2, 3)), "transitivity": (SQUARE,), "point_stabilizer": (SQUARE, 1),
+        "suborbits": (SQUARE, 1), "pair_orbits": (SQUARE,), "rank": (SQUARE,), "mirror": (SQUARE, 1),
+        "self_paired": (SQUARE,),
+    },
+    "blocks": {
+        "is_invariant": (SQUARE, PAIRS), "finest": (SQUARE, (0, 2)), "joined": (PAIRS, PAIRS),
+        "common": (PAIRS, PAIRS), "block_systems": (SQUARE,), "is_primitive": (SQUARE,), "primitivity": (SQUARE,),
+        "shows_primitivity": (SQUARE, ("blocks", PAIRS)), "block_group": (SQUARE, PAIRS, 1),
+        "on_blocks": (SQUARE, PAIRS), "kernel_on_blocks": (SQUARE, PAIRS), "above_stabilizer": (SQUARE, 1),
+    },
+}
+
+ODD_ARGUMENTS = (
+    None, True, False, 0, 1, -7, 10 ** 50, "", "(0 1)", "gen", (), (0,), (0, 1), (1, 0), ((0,),), (True,), [], [0, 1], {},
+    {"a": 1}, ([],), ({},), (None, None), (4, ()), (4, [(0, 1, 2, 3)]), SQUARE, PAIRS, SQUARED, ((), ()), (("gen", []),),
+    ((((0, [1]),),),), (2, {}), {(0, 1): (1, 0)}, ["gen"], ("walks", ((0, [1]),)), ("blocks", [PAIRS]), ("orbit", {}),
+)
+
+
+def functions():
+    for module, told in INTERFACE.items():
+        for text in told.split():
+            name = text.split("(")[0]
+            yield module, name, getattr(importlib.import_module(f"stronggens.{module}"), name), text
+
+
+class TestInterface(unittest.TestCase):
+    def test_names_and_arguments(self):
+        for module, name, function, text in functions():
+            signature = str(inspect.signature(function)).replace(" ", "")
+            self.assertEqual(name + signature, text)
+            self.assertEqual(function.__module__, f"stronggens.{module}")
+
+    def test_each_function_has_a_call(self):
+        self.assertEqual({(module, name) for module, name, _, _ in functions()},
+                         {(module, name) for module in CALLS for name in CALLS[module]})
+
+    def test_arguments_by_name(self):
+        for module, name, function, _ in functions():
+            words = [word for word, kind in inspect.signature(function).parameters.items()
+                     if kind.kind is not inspect.Parameter.KEYWORD_ONLY]
+            self.assertEqual(function(**dict(zip(words, CALLS[module][name]))), function(*CALLS[module][name]))
+
+
+class TestAnswers(unittest.TestCase):
+    def test_equal_arguments_have_equal_answers(self):
+        for module, name, function, _ in functions():
+            told = CALLS[module][name]
+            before = repr(told)
+            one = function(*told)
+            other = function(*told)
+            self.assertEqual(repr(one), repr(other), name)
+            self.assertEqual(repr(told), before, name)
+            if isinstance(one, list):
+                self.assertIsNot(one, other)
+                one.clear()
+                self.assertEqual(function(*told), other)
+
+    def test_any_value_for_any_argument(self):
+        """Each argument is spoiled by each odd value: the answer is one of the package's errors, or any answer."""
+        for module, name, function, _ in functions():
+            told = CALLS[module][name]
+            for place in range(len(told)):
+                for value in ODD_ARGUMENTS:
+                    spoiled = told[:place] + (value,) + told[place + 1:]
+                    before = repr(spoiled)
+                    try:
+                        function(*spoiled)
+                    except GroupError as error:
+                        self.assertIs(type(error).__base__, GroupError)
+                    self.assertEqual(repr(spoiled), before, name)
+
+    def test_the_leftmost_error_is_raised(self):
+        """With wrong values from some argument on, the error is the same as with that one alone."""
+        for module, name, function, _ in functions():
+            told = CALLS[module][name]
+            for place in range(len(told) - 1):
+                for value in (None, True, [0], {}, "?"):
+                    alone = self.error_of(function, told[:place] + (value,) + told[place + 1:])
+                    if alone is not None:
+                        rest = (value,) * (len(told) - place)
+                        self.assertEqual(self.error_of(function, told[:place] + rest), alone, name)
+
+    def error_of(self, function, told):
+        try:
+            function(*told)
+        except GroupError as error:
+            return type(error), vars(error)
+        return None
+
+
+class TestIntegers(unittest.TestCase):
+    def test_true_and_false_are_none(self):
+        perms = importlib.import_module("stronggens.perms")
+        orbits = importlib.import_module("stronggens.orbits")
+        blocks = importlib.import_module("stronggens.blocks")
+        expect(self, BadDegree, {}, perms.identity, True)
+        expect(self, BadPermutation, {}, perms.inverse, (True, False))
+        expect(self, BadPermutation, {}, perms.product, (1, 0), (True, 0))
+        expect(self, BadGroup, {"index": None}, orbits.orbits, (True, ()))
+        expect(self, BadGroup, {"index": 1}, orbits.orbits, (2, ((1, 0), (1, False))))
+        expect(self, BadPoint, {}, orbits.orbit, SQUARE, True)
+        expect(self, BadNumber, {}, blocks.block_group, SQUARE, PAIRS, False)
+        self.assertEqual(perms.power(ring(3), 1), (1, 2, 0))
+
+
+if __name__ == "__main__":
+    unittest.main()
