@@ -1,6 +1,8 @@
 """What counts as a degree, a permutation, a group and so on, and the errors for what does not."""
 
-from stronggens.errors import BadDegree, BadGroup, BadNumber, BadPermutation, BadPoint, BadProgram, BadWord
+from stronggens.errors import (
+    BadDegree, BadGroup, BadNumber, BadPermutation, BadPoint, BadPrefix, BadProgram, BadWord,
+)
 
 MOST_DEGREE = 12
 MOST_GENERATORS = 12
@@ -109,6 +111,15 @@ def check_two_groups(one, other):
     check_group(other)
     if one[0] != other[0]:
         raise BadDegree("the degrees of the groups differ")
+
+
+def check_prefix(degree, value):
+    """Raise BadPrefix for a value that is not a tuple of different points of the degree."""
+    if type(value) is not tuple:
+        raise BadPrefix(None)
+    for index, point in enumerate(value):
+        if not is_point(degree, point) or point in value[:index]:
+            raise BadPrefix(index)
 
 
 def is_letter(many, value):

@@ -87,6 +87,10 @@ class Tower:
             loop = self.tape.times(self.tape.times(floor.forth[image], p), floor.back[target])
             self.take(loop, at + 1)
 
+    def trim(self, many):
+        """Leave out the floors with a single image, but for so many first ones."""
+        self.floors = self.floors[:many] + [floor for floor in self.floors[many:] if len(floor.forth) > 1]
+
     def holds(self, p):
         """Tell whether a permutation is an element of the group."""
         return self.sift(p)[0] == self.one

@@ -94,6 +94,37 @@ raises InvalidText(8)
 [True, False, True]
 ''',
     ),
+    "fixed": (
+        '''
+>>> from stronggens.fixed import colorings, colorings_with, cycle_index, least_coloring, patterns
+>>> square = (4, ((1, 2, 3, 0), (0, 3, 2, 1)))
+>>> [colorings(square, 2), colorings_with(square, (2, 2)), patterns(square, 2), cycle_index(square), least_coloring(square, (1, 0, 0, 0))]
+[6, 2, 4, [((1, 1, 1, 1), 1), ((1, 1, 2), 2), ((2, 2), 3), ((4,), 2)], (0, 0, 0, 1)]
+''',
+        '''
+>>> from stronggens.fixed import carriers, frobenius_kernel, regular_normal, unfixed_count
+>>> square = (4, ((1, 2, 3, 0), (0, 3, 2, 1)))
+>>> turns = ((0, 1, 2, 3), (1, 2, 3, 0), (2, 3, 0, 1), (3, 0, 1, 2))
+>>> [unfixed_count(square), frobenius_kernel(square), frobenius_kernel((3, ((1, 2, 0), (1, 0, 2)))), regular_normal(square)[1] == turns, carriers(square, turns, 1)]
+[5, None, ((0, 1, 2), (1, 2, 0), (2, 0, 1)), True, ((3, 0, 1, 2), (0, 1, 2, 3), (1, 2, 3, 0), (2, 3, 0, 1))]
+''',
+        '''
+>>> from stronggens.fixed import carriers
+>>> carriers((2, ((1, 0),)), ((0, 1),), 0)
+raises NotRegular
+''',
+    ),
+    "words": (
+        '''
+>>> from stronggens.words import conjugate_words, cyclically_reduced, read_word, reduced, word_root, write_word
+>>> [reduced(2, (1, 2, -2, -1, 2)), cyclically_reduced(2, (1, 2, -1)), word_root(2, (1, 2, 1, 2)), conjugate_words(2, (1,), (2,))]
+[(2,), ((1,), (2,)), ((1, 2), 2), None]
+>>> [write_word(3, (1, -2, 3)), read_word(2, "(ab)2A-1"), read_word(2, "a0"), read_word(2, "aA")]
+['aBc', (1, 2, 1, 2, 1), (), (1, -1)]
+>>> read_word(2, "a(")
+raises InvalidText(place=2)
+''',
+    ),
 }
 
 

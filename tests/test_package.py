@@ -20,10 +20,28 @@ INTERFACE = {
         block_systems(group) is_primitive(group) primitivity(group) shows_primitivity(group,value)
         block_group(group,partition,number) on_blocks(group,partition) kernel_on_blocks(group,partition)
         above_stabilizer(group,point)""",
+    "fixed": """colorings(group,colors) colorings_with(group,counts) patterns(group,colors) cycle_index(group)
+        least_coloring(group,coloring) unfixed_count(group) unfixed(group) frobenius_kernel(group)
+        regular_normal(group) carriers(group,rows,point)""",
+    "chains": """base_points(group,*,prefix=()) orbit_sizes(group,*,prefix=()) order(group) chain(group,*,prefix=())
+        shows_chain(group,value) chain_gap(group,value) base_swap(group,value,level)""",
+    "sifting": "contains(group,p) membership(group,p) outsider(group,p) shows_outsider(group,p,value)",
+    "transversals": """transversal(group,point) shows_transversal(group,point,value)
+        schreier_generators(group,point,pairs)""",
+    "generators": """extra_generator(group,other) inclusion(group,other) same(group,other) irredundant(group)
+        edges(group) has_few(group) with_few(group)""",
+    "listing": """all_elements(group) element(group,place) rank_of(group,p) count_below(group,p) next_element(group,p)
+        least_in_coset(group,p,*,left=False) same_coset(group,p,q,*,left=False)""",
+    "words": """reduced(many,word) cyclically_reduced(many,word) conjugate_words(many,one,other) word_root(many,word)
+        write_word(many,word) read_word(many,text)""",
 }
 
 PAIRS = ((0, 2), (1, 3))
 SQUARED = (("gen", 0), ("mul", 0, 0))
+TURNS = ((0, 1, 2, 3), (1, 2, 3, 0), (2, 3, 0, 1), (3, 0, 1, 2))
+RING = (4, (TURNS[1],))
+CHAIN = ((0, RING[1], tuple(enumerate(TURNS))),)
+LONGER = ((0, RING[1], tuple(enumerate(TURNS))), (2, (), ((2, TURNS[0]),)))
 
 # For each function some arguments of the right kinds.
 CALLS = {
@@ -50,12 +68,42 @@ CALLS = {
         "shows_primitivity": (SQUARE, ("blocks", PAIRS)), "block_group": (SQUARE, PAIRS, 1),
         "on_blocks": (SQUARE, PAIRS), "kernel_on_blocks": (SQUARE, PAIRS), "above_stabilizer": (SQUARE, 1),
     },
+    "fixed": {
+        "colorings": (SQUARE, 2), "colorings_with": (SQUARE, (2, 2)), "patterns": (SQUARE, 2), "cycle_index": (SQUARE,),
+        "least_coloring": (SQUARE, (1, 0, 0, 2)), "unfixed_count": (SQUARE,), "unfixed": (SQUARE,),
+        "frobenius_kernel": (SQUARE,), "regular_normal": (SQUARE,), "carriers": (SQUARE, TURNS, 1),
+    },
+    "chains": {
+        "base_points": (SQUARE,), "orbit_sizes": (SQUARE,), "order": (SQUARE,), "chain": (SQUARE,),
+        "shows_chain": (RING, CHAIN), "chain_gap": (SQUARE, CHAIN), "base_swap": (RING, LONGER, 0),
+    },
+    "sifting": {
+        "contains": (SQUARE, (1, 0, 2, 3)), "membership": (SQUARE, (1, 0, 3, 2)), "outsider": (SQUARE, (1, 0, 2, 3)),
+        "shows_outsider": (SQUARE, (1, 0, 2, 3), ((), 1)),
+    },
+    "transversals": {
+        "transversal": (RING, 0), "shows_transversal": (RING, 0, CHAIN[0][2]),
+        "schreier_generators": (RING, 0, CHAIN[0][2]),
+    },
+    "generators": {
+        "extra_generator": (RING, SQUARE), "inclusion": (SQUARE, RING), "same": (RING, SQUARE), "irredundant": (SQUARE,),
+        "edges": (SQUARE,), "has_few": (SQUARE,), "with_few": (SQUARE,),
+    },
+    "listing": {
+        "all_elements": (SQUARE,), "element": (SQUARE, 3), "rank_of": (SQUARE, (1, 0, 3, 2)),
+        "count_below": (SQUARE, (1, 0, 2, 3)), "next_element": (SQUARE, (1, 0, 2, 3)),
+        "least_in_coset": (SQUARE, (1, 0, 2, 3)), "same_coset": (SQUARE, (1, 0, 2, 3), (1, 0, 3, 2)),
+    },
+    "words": {
+        "reduced": (2, (1, -1, 2)), "cyclically_reduced": (2, (1, 2, -1)), "conjugate_words": (2, (1, 2), (2, 1)),
+        "word_root": (2, (1, 2, 1, 2)), "write_word": (2, (1, -2)), "read_word": (2, "(aB)2"),
+    },
 }
 
 ODD_ARGUMENTS = (
     None, True, False, 0, 1, -7, 10 ** 50, "", "(0 1)", "gen", (), (0,), (0, 1), (1, 0), ((0,),), (True,), [], [0, 1], {},
     {"a": 1}, ([],), ({},), (None, None), (4, ()), (4, [(0, 1, 2, 3)]), SQUARE, PAIRS, SQUARED, ((), ()), (("gen", []),),
-    ((((0, [1]),),),), (2, {}), {(0, 1): (1, 0)}, ["gen"], ("walks", ((0, [1]),)), ("blocks", [PAIRS]), ("orbit", {}),
+    ((((0, [1]),),),), (2, {}), CHAIN, TURNS, LONGER[1:], ((0, (), ((0, []),)),), ((0, ({},), ()),), ((), 0), ((), [0]), {(0, 1): (1, 0)}, ["gen"], ("walks", ((0, [1]),)), ("blocks", [PAIRS]), ("orbit", {}),
 )
 
 
