@@ -1,7 +1,7 @@
 """Invariant partitions, primitivity, and the groups that belong to blocks."""
 
 from stronggens.checks import (
-    are_ascending_points, are_points, check_group, check_number, check_point, is_row, is_tuple_of,
+    are_ascending_points, are_points, check_group, check_number, check_point, is_between, is_row, is_tuple_of,
 )
 from stronggens.errors import BadPartition, BadSet, NotInvariant, NotTransitive
 from stronggens.forests import few
@@ -189,14 +189,14 @@ def _walk(degree, graph):
 
 
 def _shows_orbit(degree, generators, points):
-    if not are_ascending_points(degree, points) or len(points) not in range(1, degree):
+    if not are_ascending_points(degree, points) or not is_between(len(points), 1, degree - 1):
         return False
     return all(p[point] in points for p in generators for point in points)
 
 
 def _shows_blocks(group, partition):
     degree = group[0]
-    if not is_partition(degree, partition) or len(partition) not in range(2, degree):
+    if not is_partition(degree, partition) or not is_between(len(partition), 2, degree - 1):
         return False
     return is_transitive(group) and is_kept(group[1], partition)
 

@@ -48,9 +48,9 @@ def chain_gap(group, value):
             return "missing", index
     above = tower_of(group)
     for at, level in enumerate(value):
-        gap = _level_gap(level, above, towers[at], towers[at + 1])
+        gap = _level_gap(at, level, above, towers[at], towers[at + 1])
         if gap is not None:
-            return gap[0], at, *gap[1:]
+            return gap
         above = towers[at]
     return None
 
@@ -108,8 +108,8 @@ def _is_shaped(degree, fixed, level):
     return all(p[x] == x for p in perms for x in fixed) and all(p[point] == image for image, p in pairs)
 
 
-def _level_gap(level, above, here, below):
-    """Return the first thing that is wrong with a well shaped level, without its index, None if nothing is.
+def _level_gap(at, level, above, here, below):
+    """Return the first thing that is wrong with a well shaped level, None if nothing is.
 
     Told are the towers of the level ahead of it (of the group for the first one), of the level and of the next one.
     """
@@ -117,16 +117,16 @@ def _level_gap(level, above, here, below):
     table = {image: p for image, p in pairs}
     for index, p in enumerate(generators):
         if not above.holds(p):
-            return "generator", index
+            return "generator", at, index
     for image in table:
         for index, p in enumerate(generators):
             if p[image] not in table:
-                return "orbit", image, index
+                return "orbit", at, image, index
     for image, carry in pairs:
         if not here.holds(carry):
-            return "transversal", image
+            return "transversal", at, image
     for image, carry in pairs:
         for index, p in enumerate(generators):
             if not below.holds(compose(compose(carry, p), invert(table[p[image]]))):
-                return "schreier", image, index
+                return "schreier", at, image, index
     return None

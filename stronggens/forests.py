@@ -18,7 +18,7 @@ def way(edges, start, end):
         for a, b in edges:
             for here, there in ((a, b), (b, a)):
                 if here == point and there not in ways:
-                    ways[there] = [*ways[point], there]
+                    ways[there] = ways[point] + [there]
                     queue.append(there)
     return ways[end] if end in ways else None
 
