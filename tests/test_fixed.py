@@ -104,7 +104,7 @@ class TestColorings(unittest.TestCase):
             self.assertGreater(colorings(SQUARE, value), 0)
 
     def test_wrong_counts(self):
-        for value in (None, True, 4, "4", [4], {}, (), (3,), (5,), (2, 3), (5, -1), (4, 0, 0, 0, 0, 0, 0), (True, 3), (4, False),
+        for value in (None, True, 4, "4", [4], {}, (), (3,), (5,), (2, 3), (5, -1), (3, 2, -1), (-1, 2, 3), (4, 0, 0, 0, 0, 0, 0), (True, 3), (4, False),
                       (4, None), ("4",), ((4,),), ([4],), (10 ** 30, 4 - 10 ** 30)):
             for group in (SQUARE, (4, ())):
                 expect(self, BadCounts, {}, colorings_with, group, value)

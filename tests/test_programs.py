@@ -98,8 +98,8 @@ class TestPrograms(unittest.TestCase):
                 expect(self, BadProgram, {"index": None}, function, SQUARE, value)
             for step in (None, True, 0, "gen", ["gen", 0], {}, (), ("gen",), ("gen", 2), ("gen", -1), ("gen", True),
                          ("gen", "0"), ("gen", 0, 0), ("inv", 1), ("inv", -1), ("inv", False), ("inv", 0, 0), ("inv",),
-                         ("mul", 0), ("mul", 0, 1), ("mul", 1, 0), ("mul", 0, -1), ("mul", 0, None), ("mul", 0, 0, 0),
-                         ("mul", False, 0), ("add", 0, 0), (0, 0), (None, None), ([], {}), (("gen", 0),), ("gen", [0])):
+                         ("mul", 0), ("mul", 0, 1), ("mul", 1, 0), ("mul", 0, -1), ("mul", -1, 0), ("mul", 0, None), ("mul", 0, 0, 0),
+                         ("mul", None, 0), ("mul", False, 0), ("add", 0, 0), (0, 0), (None, None), ([], {}), (("gen", 0),), ("gen", [0])):
                 expect(self, BadProgram, {"index": 1}, function, SQUARE, (good, step))
                 expect(self, BadProgram, {"index": 1}, function, SQUARE, (good, step, None))
                 expect(self, BadProgram, {"index": 0}, function, (4, ()), (step, good))

@@ -100,6 +100,18 @@ class TestRoot(unittest.TestCase):
         self.check(ring(11), 7 ** 5000, True)
         self.check(cyc(12, range(5), range(5, 10)), 2 ** 2000, True)
 
+    def test_long_cycles(self):
+        for length in range(6, 13):
+            for exponent in range(1, 37):
+                self.check(ring(length), exponent, math.gcd(length, exponent) == 1)
+            self.assertIsNone(root_obstacle(ring(length), 13))
+        self.assertEqual([root_obstacle(ring(7), 49), root_obstacle(ring(11), 22), root_obstacle(ring(10), 25)],
+                         [(7, 1, 49), (11, 1, 11), (10, 1, 25)])
+        self.check(cyc(12, range(6), range(6, 12)), 2, True)
+        self.check(cyc(12, range(6), range(6, 12)), 4, False)
+        self.check(cyc(12, range(0, 3), range(3, 6), range(6, 9), range(9, 12)), 3, False)
+        self.check(cyc(12, range(0, 3), range(3, 6), range(6, 9)), 3, True)
+
     def test_smallest_length_is_told(self):
         self.assertEqual(root_obstacle(cyc(7, (0, 1), (2, 3, 4, 5)), 2), (2, 1, 2))
         self.assertEqual(root_obstacle(cyc(8, (0, 1), (2, 3), (4, 5, 6, 7)), 2), (4, 1, 2))
