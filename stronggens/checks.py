@@ -1,13 +1,18 @@
 """What counts as a degree, a permutation, a group and so on, and the errors for what does not."""
 
+from stronggens.arithmetic import is_prime
 from stronggens.errors import (
-    BadDegree, BadGroup, BadNumber, BadPermutation, BadPoint, BadPrefix, BadProgram, BadWord,
+    BadDegree, BadGroup, BadNumber, BadPermutation, BadPoint, BadPrefix, BadPresentation, BadPrime, BadProgram, BadWord,
+    BadWords,
 )
 
 MOST_DEGREE = 12
 MOST_GENERATORS = 12
 MOST_LETTERS = 60
 MOST_STEPS = 2000
+MOST_RELATORS = 60
+MOST_WORDS = 6
+MOST_LETTERS_OF_WORDS = 36
 
 
 def is_between(value, low, high):
@@ -96,6 +101,12 @@ def check_number(value, low, high):
         raise BadNumber(f"not an integer from {low} to {high}")
 
 
+def check_prime(value):
+    """Raise BadPrime for a value that is not a prime."""
+    if not is_prime(value):
+        raise BadPrime("not a prime number from 2 to 1999")
+
+
 def check_group(value):
     """Raise BadGroup for a value that is not a group."""
     if not is_tuple_of(value, 2) or not is_degree(value[0]) or not is_row(value[1], MOST_GENERATORS):
@@ -136,6 +147,44 @@ def check_word(many, value):
             raise BadWord(index)
 
 
+def is_word(many, value):
+    """Tell whether a value is a word in so many generators."""
+    return is_row(value, MOST_LETTERS) and all(is_letter(many, letter) for letter in value)
+
+
+def first_no_word(many, values):
+    """Return the index of the first value that is not a word in so many generators, None if all are."""
+    for index, value in enumerate(values):
+        if not is_word(many, value):
+            return index
+    return None
+
+
+def is_presentation(value):
+    """Tell whether a value is a presentation."""
+    return _is_presented(value) and first_no_word(value[0], value[1]) is None
+
+
+def check_presentation(value):
+    """Raise BadPresentation for a value that is not a presentation."""
+    if not _is_presented(value):
+        raise BadPresentation(None)
+    index = first_no_word(value[0], value[1])
+    if index is not None:
+        raise BadPresentation(index)
+
+
+def check_words(many, value):
+    """Raise BadWords for a value that is not a tuple of words of a subgroup, in so many generators."""
+    if not is_row(value, MOST_WORDS):
+        raise BadWords(None)
+    index = first_no_word(many, value)
+    if index is not None:
+        raise BadWords(index)
+    if sum([len(word) for word in value]) > MOST_LETTERS_OF_WORDS:
+        raise BadWords(None)
+
+
 def is_step(many, place, value):
     """Tell whether a value can stand at a place of a program over so many generators."""
     if is_tuple_of(value, 2) and value[0] == "gen":
@@ -147,6 +196,11 @@ def is_step(many, place, value):
     return False
 
 
+def is_program(many, value):
+    """Tell whether a value is a program over so many generators."""
+    return is_row(value, MOST_STEPS) and all(is_step(many, place, step) for place, step in enumerate(value))
+
+
 def check_program(many, value):
     """Raise BadProgram for a value that is not a program over so many generators."""
     if not is_row(value, MOST_STEPS):
@@ -154,3 +208,8 @@ def check_program(many, value):
     for place, step in enumerate(value):
         if not is_step(many, place, step):
             raise BadProgram(place)
+
+
+def _is_presented(value):
+    """Tell whether a value is a pair of a number of generators and a tuple of at most 60 things."""
+    return is_tuple_of(value, 2) and is_between(value[0], 0, MOST_GENERATORS) and is_row(value[1], MOST_RELATORS)

@@ -1,10 +1,8 @@
 """Permutations: products, inverses, powers and cycles."""
 
-from math import lcm
-
 from stronggens.checks import check_any_permutation, check_degree, check_two_permutations
 from stronggens.errors import BadExponent
-from stronggens.quick import all_lengths, compose, conjugated, full_cycles, invert, unit
+from stronggens.quick import all_lengths, compose, conjugated, full_cycles, invert, period, unit
 
 
 def identity(degree):
@@ -65,10 +63,7 @@ def cycle_lengths(p):
 def element_order(p):
     """Return the smallest positive exponent whose power of p is the identity."""
     check_any_permutation(p)
-    least = 1
-    for length in all_lengths(p):
-        least = lcm(least, length)
-    return least
+    return period(p)
 
 
 def sign(p):

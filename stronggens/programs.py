@@ -51,6 +51,24 @@ def expand(group, program):
     return letters[len(program) - 1]
 
 
+def spelled(letters):
+    """Return a program whose value is the product of the values of letters from left to right."""
+    steps = []
+    places = {}
+    made = None
+    for letter in letters:
+        for sign in (abs(letter), letter):
+            if sign not in places:
+                places[sign] = len(steps)
+                steps.append(("gen", sign - 1) if sign > 0 else ("inv", places[-sign]))
+        if made is None:
+            made = places[letter]
+        else:
+            steps.append(("mul", made, places[letter]))
+            made = len(steps) - 1
+    return tuple(steps)
+
+
 def needed_steps(program):
     """Return the ascending list of the places of the steps from which the last step is made."""
     needed = set()

@@ -1,5 +1,7 @@
 """Permutations without checks, for use inside the package."""
 
+from math import lcm
+
 
 def unit(degree):
     """Return the permutation that fixes every point."""
@@ -55,6 +57,14 @@ def from_cycles(degree, rows):
 def all_lengths(p):
     """Return the ascending tuple of the lengths of all cycles."""
     return tuple(sorted([len(row) for row in full_cycles(p)]))
+
+
+def period(p):
+    """Return the smallest positive exponent whose power is the identity."""
+    least = 1
+    for length in all_lengths(p):
+        least = lcm(least, length)
+    return least
 
 
 def least_moved(p):

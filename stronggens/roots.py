@@ -2,6 +2,7 @@
 
 from math import factorial
 
+from stronggens.arithmetic import greatest_power
 from stronggens.checks import check_any_permutation, check_two_permutations
 from stronggens.errors import BadExponent
 from stronggens.quick import from_cycles, full_cycles
@@ -70,22 +71,8 @@ def _divisor(length, exponent):
     divisor = 1
     for prime in PRIMES:
         if length % prime == 0:
-            divisor = divisor * _greatest_power(prime, exponent)
+            divisor = divisor * greatest_power(prime, exponent)
     return divisor
-
-
-def _greatest_power(prime, number):
-    """Return the greatest power of a prime that divides a positive number."""
-    # Repeated squares keep the divisions few where the number is very long.
-    squares = [prime]
-    while number % squares[-1] == 0:
-        squares.append(squares[-1] * squares[-1])
-    greatest = 1
-    for square in reversed(squares):
-        if number % square == 0:
-            number = number // square
-            greatest = greatest * square
-    return greatest
 
 
 def _merged_cycle(rows, exponent):

@@ -1,7 +1,6 @@
 """Membership in a group, with programs for elements and certificates for others."""
 
-from stronggens.checks import check_group, check_permutation, check_program, is_between, is_tuple_of
-from stronggens.errors import BadProgram
+from stronggens.checks import check_group, check_permutation, is_between, is_program, is_tuple_of
 from stronggens.programs import run_program
 from stronggens.quick import compose
 from stronggens.towers import tower_of
@@ -30,7 +29,7 @@ def shows_outsider(group, p, value):
     """Tell whether any value is a certificate that p is not an element."""
     tower = _tower(group, p)
     floors = tower.floors
-    if not is_tuple_of(value, 2) or not is_between(value[1], 0, len(floors)) or not _is_program(group, value[0]):
+    if not is_tuple_of(value, 2) or not is_between(value[1], 0, len(floors)) or not is_program(len(group[1]), value[0]):
         return False
     program, at = value
     rest = compose(p, run_program(group, program))
@@ -56,11 +55,3 @@ def _product(tape, factors):
     for factor in factors:
         made = tape.times(made, factor)
     return made
-
-
-def _is_program(group, value):
-    try:
-        check_program(len(group[1]), value)
-    except BadProgram:
-        return False
-    return True

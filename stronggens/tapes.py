@@ -1,4 +1,4 @@
-"""Records of how permutations were made, from which programs are cut."""
+"""Records of how permutations, or words, were made, from which programs are cut."""
 
 from stronggens.programs import needed_steps
 from stronggens.quick import compose, invert
@@ -14,6 +14,14 @@ class Tape:
         for index, p in enumerate(generators):
             self.note(p, ("gen", index))
 
+    def joined(self, p, q):
+        """Return the product of two permutations."""
+        return compose(p, q)
+
+    def flipped(self, p):
+        """Return the inverse of a permutation."""
+        return invert(p)
+
     def note(self, p, step):
         """Add a step that makes p, unless there is one, and return p."""
         if p not in self.places:
@@ -27,13 +35,13 @@ class Tape:
             return q
         if q == self.one:
             return p
-        return self.note(compose(p, q), ("mul", self.places[p], self.places[q]))
+        return self.note(self.joined(p, q), ("mul", self.places[p], self.places[q]))
 
     def turned(self, p):
         """Return the inverse of a permutation that is on the tape, and have it there."""
         if p == self.one:
             return p
-        return self.note(invert(p), ("inv", self.places[p]))
+        return self.note(self.flipped(p), ("inv", self.places[p]))
 
     def program(self, p):
         """Return a program, of no more steps than needed, for a permutation that is on the tape."""

@@ -2,6 +2,7 @@
 
 from stronggens.errors import TooMany
 from stronggens.forests import few
+from stronggens.letters import letter_at
 from stronggens.quick import compose, invert, unit
 
 MOST_REACHED = 2000
@@ -61,7 +62,7 @@ def least_word(generators, one, other, act):
     letters = []
     while roads[other] is not None:
         other, index = roads[other]
-        letters.append(index // 2 + 1 if index % 2 == 0 else -(index // 2) - 1)
+        letters.append(letter_at(index))
     return tuple(reversed(letters))
 
 

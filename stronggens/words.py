@@ -2,6 +2,7 @@
 
 from stronggens.checks import check_number, check_word
 from stronggens.errors import InvalidText, NotText, TooMany
+from stronggens.letters import cancelled, cut, inverted
 
 MOST_GENERATORS = 12
 MOST_LETTERS = 60
@@ -15,37 +16,37 @@ INVERSES = "ABCDEFGHIJKL"
 def reduced(many, word):
     """Return the word that is left when letters beside their inverses are removed."""
     _check(many, word)
-    return _reduced(word)
+    return cancelled(word)
 
 
 def cyclically_reduced(many, word):
     """Return (outer, inner): the reduced word is outer, inner, then the inverse of outer."""
     _check(many, word)
-    return _cut(_reduced(word))
+    return cut(cancelled(word))
 
 
 def conjugate_words(many, one, other):
     """Return a word w such that the inverse of w, one and w are freely equal to other, None if there is none."""
     _check(many, one)
     check_word(many, other)
-    outer, inner = _cut(_reduced(one))
-    goal_outer, goal = _cut(_reduced(other))
+    outer, inner = cut(cancelled(one))
+    goal_outer, goal = cut(cancelled(other))
     if len(inner) != len(goal):
         return None
     for place in range(max(1, len(inner))):
         if inner[place:] + inner[:place] == goal:
-            return _reduced(outer + inner[:place] + _inverted(goal_outer))
+            return cancelled(outer + inner[:place] + inverted(goal_outer))
     return None
 
 
 def word_root(many, word):
     """Return (root, exponent) with the greatest exponent such that the word is freely equal to that power."""
     _check(many, word)
-    outer, inner = _cut(_reduced(word))
+    outer, inner = cut(cancelled(word))
     for size in range(1, len(inner) + 1):
         exponent = len(inner) // size
         if inner[:size] * exponent == inner:
-            return outer + inner[:size] + _inverted(outer), exponent
+            return outer + inner[:size] + inverted(outer), exponent
     return (), 0
 
 
@@ -67,28 +68,6 @@ def read_word(many, text):
 def _check(many, word):
     check_number(many, 0, MOST_GENERATORS)
     check_word(many, word)
-
-
-def _reduced(word):
-    letters = []
-    for letter in word:
-        if letters and letters[-1] == -letter:
-            letters.pop()
-        else:
-            letters.append(letter)
-    return tuple(letters)
-
-
-def _inverted(word):
-    return tuple([-letter for letter in reversed(word)])
-
-
-def _cut(word):
-    """Return the outer and the inner part of a reduced word."""
-    size = 0
-    while 2 * size < len(word) - 1 and word[size] == -word[-1 - size]:
-        size += 1
-    return word[:size], word[size:len(word) - size]
 
 
 def _read_parts(many, text):
@@ -150,7 +129,7 @@ def _letters_of(parts):
         part = rows.pop() if sign == ")" else [_letter(MOST_GENERATORS, sign)]
         if len(part) * abs(exponent) > MOST_LETTERS:
             raise TooMany(MOST_LETTERS)
-        copied = part if exponent >= 0 else list(_inverted(part))
+        copied = part if exponent >= 0 else list(inverted(part))
         rows[-1].extend(copied * abs(exponent))
         if len(rows[-1]) > MOST_LETTERS:
             raise TooMany(MOST_LETTERS)
