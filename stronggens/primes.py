@@ -20,7 +20,8 @@ def prime_part(group, prime):
 
 def sylow(group, prime):
     """Return a Sylow subgroup for a prime."""
-    return sylow_span(group[0], _rows(group, prime), prime).group()
+    rows = _rows(group, prime)
+    return sylow_span(group[0], rows, prime).group()
 
 
 def sylows(group, prime):

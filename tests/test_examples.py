@@ -125,6 +125,144 @@ raises NotRegular
 raises InvalidText(place=2)
 ''',
     ),
+    "presentations": (
+        '''
+>>> from stronggens.presentations import with_generator, without_generator
+>>> [with_generator((1, ((1, 1, 1),)), (1, 1)), without_generator((2, ((1, 1, 1), (1, 1, -2))), 2), without_generator((2, ((1, 1, 1), (1, 1, -2))), 1)]
+[(2, ((1, 1, 1), (1, 1, -2))), (1, ((1, 1, 1),)), None]
+''',
+    ),
+    "cosets": (
+        '''
+>>> from stronggens.cosets import coset_table, definitions
+>>> told = (2, ((1, 1, 1), (2, 2), (1, 2, 1, 2)))
+>>> [coset_table(told, ((2,),), "scans"), coset_table(told, ((2,),), "rows"), definitions(told, ((2,),), "scans")]
+[((1, 2, 0, 0), (2, 0, 2, 2), (0, 1, 1, 1)), ((1, 2, 0, 0), (2, 0, 2, 2), (0, 1, 1, 1)), ((0, 1), (0, -1))]
+>>> coset_table((1, ()), (), "rows")
+raises TooMany(most=600)
+''',
+    ),
+    "tables": (
+        '''
+>>> from stronggens.tables import follows, standard, table_flaw, table_map
+>>> [table_flaw((1, ((1, 1),)), (), ((1, 2), (2, 0), (0, 1))), table_flaw((1, ()), (), ((1, 2), (2, 0), (0, 1))), standard(((2, 1), (0, 2), (1, 0)))]
+[('relator', 0, 0), None, ((1, 2), (2, 0), (0, 1))]
+>>> [table_map(((1, 2), (3, 0), (0, 3), (2, 1)), ((1, 1), (0, 0))), follows((1, ((1, 1),)), (1, 1, 1, 1)), follows((1, ((1, 1),)), (1,))]
+[(0, 1, 1, 0), True, False]
+''',
+    ),
+    "schreier": (
+        '''
+>>> from stronggens.schreier import free_generators, hall_numbers, low_index, presents, rewritten, row_words, subgroup_presentation
+>>> [presents((3, ((1, 0, 2),)), (1, ((1, 1),))), presents((3, ((1, 0, 2),)), (1, ((1, 1, 1, 1),))), row_words(((1, 2), (2, 0), (0, 1)))]
+[True, False, ((), (1,), (-1,))]
+>>> [free_generators(((1, 1), (0, 0))), rewritten(((1, 1), (0, 0)), (1, 1, 1, 1)), rewritten(((1, 1), (0, 0)), (1,)), subgroup_presentation((1, ((1, 1, 1, 1),)), ((1, 1),))]
+[[(1, 1)], (1, 1), None, (1, ((1, 1),))]
+>>> [low_index((1, ()), 2), len(low_index((2, ()), 2)), hall_numbers(2, 4)]
+[[((0, 0),), ((1, 1), (0, 0))], 4, (1, 3, 13, 71)]
+''',
+    ),
+    "folding": (
+        '''
+>>> from stronggens.folding import folded, free_index, free_meet, free_program, free_rank, separated, shows_separated
+>>> [folded(2, ((1, 2),)), free_rank(2, ((1, 2),)), free_index(2, ((1, 2),)), free_index(1, ((1, 1),))]
+[((1, None, None, 1), (None, 0, 0, None)), 1, None, 2]
+>>> [free_meet(1, ((1, 1),), ((1, 1, 1),)), free_program(2, ((1,),), (2,)), free_program(2, ((1,),), (2, -2))]
+[((1, 2), (3, 0), (0, 4), (5, 1), (2, 5), (4, 3)), None, ()]
+>>> [separated(1, ((1, 1),), (1, 1)), shows_separated(1, ((1, 1),), (1,), ((1, 0),)), shows_separated(1, ((1, 1),), (1,), ((1, 2, 0),))]
+[None, True, False]
+''',
+    ),
+    "subgroups": (
+        '''
+>>> from stronggens.subgroups import frattini, is_non_generator, maximal_subgroups, normal_subgroups, subgroups
+>>> three = (3, ((1, 2, 0), (1, 0, 2)))
+>>> ring = (4, ((1, 2, 3, 0),))
+>>> [len(subgroups(three)), subgroups(three)[1:3], len(normal_subgroups(three)), len(maximal_subgroups(three)), frattini(ring), is_non_generator(ring, (2, 3, 0, 1)), is_non_generator(ring, (1, 2, 3, 0))]
+[6, [((0, 1, 2), (0, 2, 1)), ((0, 1, 2), (1, 0, 2))], 3, 4, ((0, 1, 2, 3), (2, 3, 0, 1)), True, False]
+''',
+    ),
+    "series": (
+        '''
+>>> from stronggens.series import composition, factor_orders, is_product_group, product_set, shows_composition, split
+>>> three = (3, ((1, 2, 0), (1, 0, 2)))
+>>> one = (3, ((1, 0, 2),))
+>>> other = (3, ((0, 2, 1),))
+>>> [product_set(three, one, other), is_product_group(three, one, other), split(three, one, other, (2, 0, 1)), split(three, one, other, (1, 2, 0)), composition(three)[1], factor_orders(three), shows_composition(three, composition(three)[1:])]
+[((0, 1, 2), (0, 2, 1), (1, 0, 2), (2, 0, 1)), False, ((1, 0, 2), (0, 2, 1)), None, ((0, 1, 2), (1, 2, 0), (2, 0, 1)), (2, 3), False]
+''',
+    ),
+    "primes": (
+        '''
+>>> from stronggens.primes import prime_part, rings, roots_of_one, sylow_count, sylows
+>>> three = (3, ((1, 2, 0), (1, 0, 2)))
+>>> [prime_part(three, 2), prime_part(three, 5), sylow_count(three, 2), sylows(three, 2)[1], roots_of_one(three, 2), roots_of_one(three, 6 ** 50), rings(three, 2), rings(three, 3)]
+[2, 1, 3, ((0, 1, 2), (1, 0, 2)), 4, 6, (4, 1), (3, 11)]
+''',
+        '''
+>>> from stronggens.primes import sylow
+>>> sylow((3, ()), 4)
+raises BadPrime
+''',
+    ),
+    "hall": (
+        '''
+>>> from stronggens.hall import core_p, derived_series, hall, hall_gap, is_nilpotent, is_solvable, lower_central, upper_central
+>>> three = (3, ((1, 2, 0), (1, 0, 2)))
+>>> five = (5, ((1, 2, 3, 4, 0), (1, 2, 0, 3, 4)))
+>>> [is_solvable(three), is_solvable(five), hall_gap(three), hall_gap(five), hall(five, (2, 5)), derived_series(three)[1:], len(lower_central(three)), upper_central(three), is_nilpotent(three), core_p(three, 2)]
+[True, False, None, (2, 5), None, [((0, 1, 2), (1, 2, 0), (2, 0, 1)), ((0, 1, 2),)], 2, [((0, 1, 2),)], False, ((0, 1, 2),)]
+''',
+    ),
+    "transfers": (
+        '''
+>>> from stronggens.transfers import is_central, normal_complement, obstacle, shows_obstacle, transfer
+>>> three = (3, ((1, 2, 0), (1, 0, 2)))
+>>> turns = ((0, 1, 2), (1, 2, 0), (2, 0, 1))
+>>> [normal_complement(three, 2), normal_complement(three, 3), is_central(three, 2), is_central(three, 3), obstacle(three, 2), shows_obstacle(three, 3, (turns, (1, 0, 2))), shows_obstacle(three, 3, (turns, (1, 2, 0))), transfer(three, (3, ((1, 0, 2),)), (1, 0, 2))]
+[((0, 1, 2), (1, 2, 0), (2, 0, 1)), None, True, False, None, True, False, (1, 0, 2)]
+''',
+    ),
+    "homs": (
+        '''
+>>> from stronggens.homs import above_kernel, carried, extends, map_gap, preimage, quotient, shows_not
+>>> three, flip = (3, ((1, 2, 0), (1, 0, 2))), (2, ((1, 0),))
+>>> [extends(three, flip, ((0, 1), (1, 0))), extends(three, flip, ((1, 0), (1, 0))), map_gap(three, flip, ((0, 1), (1, 0)))]
+[True, False, None]
+>>> [shows_not(three, flip, ((1, 0), (1, 0)), (("gen", 0), ("mul", 0, 0), ("mul", 1, 0))), carried(three, flip, ((0, 1), (1, 0)), (0, 2, 1)), preimage(three, flip, ((0, 1), (1, 0)), (0, 1))]
+[True, (1, 0), ((0, 1, 2), (1, 2, 0), (2, 0, 1))]
+>>> [quotient(three, (3, ((1, 2, 0),))), len(above_kernel(three, flip, ((0, 1), (1, 0))))]
+[(2, ((0, 1), (1, 0))), 2]
+''',
+    ),
+    "automorphisms": (
+        '''
+>>> from stronggens.automorphisms import automorphisms, difference, inner_automorphisms, shows_isomorphism
+>>> ring, four = (4, ((1, 2, 3, 0),)), (4, ((1, 0, 3, 2), (2, 3, 0, 1)))
+>>> [difference(ring, four), difference(ring, (3, ())), automorphisms(ring), len(automorphisms(four)), inner_automorphisms(ring)]
+[('elements', 2, 1, 3), ('order', 4, 1), [((1, 2, 3, 0),), ((3, 0, 1, 2),)], 6, [((1, 2, 3, 0),)]]
+>>> [shows_isomorphism(ring, ring, ((3, 0, 1, 2),)), shows_isomorphism(ring, ring, ((2, 3, 0, 1),))]
+[True, False]
+''',
+    ),
+    "products": (
+        '''
+>>> from stronggens.products import direct_product, goursat, matched_count, matched_subgroups, sections
+>>> flip = (2, ((1, 0),))
+>>> [direct_product(flip, flip), len(sections(flip)), matched_count(flip, flip), matched_subgroups(flip, flip)[:2]]
+[(4, ((1, 0, 2, 3), (0, 1, 3, 2))), 3, 5, [((0, 1, 2, 3),), ((0, 1, 2, 3), (0, 1, 3, 2))]]
+>>> goursat(flip, flip, (4, ((1, 0, 3, 2),)))
+(((0, 1), (1, 0)), ((0, 1),), ((0, 1), (1, 0)), ((0, 1),))
+''',
+    ),
+    "solutions": (
+        '''
+>>> from stronggens.solutions import count_images, count_onto, list_images
+>>> three = (3, ((1, 2, 0), (1, 0, 2)))
+>>> [count_images((1, ((1, 1),)), three), count_images((2, ((1, 2, -1, -2),)), three), count_onto((2, ()), three), list_images((1, ((1, 1, 1),)), three)]
+[4, 18, 18, [((0, 1, 2),), ((1, 2, 0),), ((2, 0, 1),)]]
+''',
+    ),
 }
 
 

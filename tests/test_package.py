@@ -34,6 +34,35 @@ INTERFACE = {
         least_in_coset(group,p,*,left=False) same_coset(group,p,q,*,left=False)""",
     "words": """reduced(many,word) cyclically_reduced(many,word) conjugate_words(many,one,other) word_root(many,word)
         write_word(many,word) read_word(many,text)""",
+    "presentations": "with_generator(presentation,word) without_generator(presentation,letter)",
+    "cosets": "coset_table(presentation,words,method) definitions(presentation,words,method)",
+    "tables": """table_flaw(presentation,words,value) standard(table) table_map(one,other)
+        follows(presentation,word)""",
+    "schreier": """presentation_of(group) presents(group,value) row_words(table) free_generators(table)
+        rewritten(table,word) subgroup_presentation(presentation,words) low_index(presentation,most)
+        hall_numbers(many,most)""",
+    "folding": """folded(many,words) free_rank(many,words) free_index(many,words) free_program(many,words,word)
+        free_meet(many,one,other) separated(many,words,word) shows_separated(many,words,word,value)""",
+    "subgroups": """subgroups(group) normal_subgroups(group) maximal_subgroups(group) frattini(group)
+        is_non_generator(group,p)""",
+    "series": """product_set(group,one,other) is_product_group(group,one,other) split(group,one,other,p)
+        composition(group) composition_through(group,normal) shows_composition(group,value) factor_orders(group)""",
+    "primes": """prime_part(group,prime) sylow_count(group,prime) sylow(group,prime) sylows(group,prime)
+        conjugate_into(group,prime,part,whole) frattini_split(group,normal,prime,part,p) roots_of_one(group,exponent)
+        rings(group,prime) element_of_prime(group,prime)""",
+    "hall": """hall(group,primes) derived_series(group) is_solvable(group) hall_gap(group) core_p(group,prime)
+        lower_central(group) upper_central(group) is_nilpotent(group)""",
+    "transfers": """normal_complement(group,prime) is_central(group,prime) obstacle(group,prime)
+        shows_obstacle(group,prime,value) transfer(group,part,p)""",
+    "homs": """extends(source,target,images) shows_not(source,target,images,value) map_gap(source,target,images)
+        carried(source,target,images,p) kernel(source,target,images) image_group(source,target,images)
+        preimage(source,target,images,q) quotient(group,normal) above_kernel(source,target,images)""",
+    "automorphisms": """isomorphism(one,other) shows_isomorphism(one,other,value) difference(one,other)
+        automorphisms(group) inner_automorphisms(group)""",
+    "products": """direct_product(one,other) goursat(one,other,part) sections(group) matched_subgroups(one,other)
+        matched_count(one,other)""",
+    "solutions": """count_images(presentation,group) count_onto(presentation,group)
+        list_images(presentation,group)""",
 }
 
 PAIRS = ((0, 2), (1, 3))
@@ -42,6 +71,14 @@ TURNS = ((0, 1, 2, 3), (1, 2, 3, 0), (2, 3, 0, 1), (3, 0, 1, 2))
 RING = (4, (TURNS[1],))
 CHAIN = ((0, RING[1], tuple(enumerate(TURNS))),)
 LONGER = ((0, RING[1], tuple(enumerate(TURNS))), (2, (), ((2, TURNS[0]),)))
+PRESENTED = (2, ((1, 1, 1, 1), (2, 2), (1, 2, 1, 2)))
+TABLE = ((1, 2), (2, 0), (0, 1))
+HALVES = ((0, 1, 2, 3), (2, 3, 0, 1))
+FLIP = (2, ((1, 0),))
+SIGNS = ((1, 0), (1, 0))
+FOUR = (4, ((1, 0, 3, 2), (2, 3, 0, 1)))
+SERIES = ((TURNS[0],), HALVES, TURNS)
+ALTERNATING = (4, ((1, 2, 0, 3), (0, 2, 3, 1)))
 
 # For each function some arguments of the right kinds.
 CALLS = {
@@ -98,12 +135,71 @@ CALLS = {
         "reduced": (2, (1, -1, 2)), "cyclically_reduced": (2, (1, 2, -1)), "conjugate_words": (2, (1, 2), (2, 1)),
         "word_root": (2, (1, 2, 1, 2)), "write_word": (2, (1, -2)), "read_word": (2, "(aB)2"),
     },
+    "presentations": {"with_generator": (PRESENTED, (1, -2)), "without_generator": ((2, ((1, 1), (1, 1, -2))), 2)},
+    "cosets": {"coset_table": (PRESENTED, ((2,),), "rows"), "definitions": (PRESENTED, ((2,),), "scans")},
+    "tables": {
+        "table_flaw": ((1, ((1, 1),)), ((1, 1),), TABLE), "standard": (TABLE,), "table_map": (TABLE, ((0, 0),)),
+        "follows": (PRESENTED, (1, 2, -1, -2)),
+    },
+    "schreier": {
+        "presentation_of": (SQUARE,), "presents": (SQUARE, PRESENTED), "row_words": (TABLE,), "free_generators": (TABLE,),
+        "rewritten": (TABLE, (1, 1, 1)), "subgroup_presentation": (PRESENTED, ((1,),)), "low_index": (PRESENTED, 4),
+        "hall_numbers": (2, 5),
+    },
+    "folding": {
+        "folded": (2, ((1, 2), (2, 2))), "free_rank": (2, ((1, 2), (2, 2))), "free_index": (2, ((1, 2), (2, 2))),
+        "free_program": (2, ((1, 2), (2, 2)), (1, -2)), "free_meet": (2, ((1, 2),), ((2, 1), (1,))),
+        "separated": (2, ((1, 2),), (1,)), "shows_separated": (2, ((1, 2),), (1,), ((1, 0), (1, 0))),
+    },
+    "subgroups": {
+        "subgroups": (SQUARE,), "normal_subgroups": (SQUARE,), "maximal_subgroups": (SQUARE,), "frattini": (SQUARE,),
+        "is_non_generator": (SQUARE, (2, 3, 0, 1)),
+    },
+    "series": {
+        "product_set": (SQUARE, RING, FOUR), "is_product_group": (SQUARE, RING, FOUR),
+        "split": (SQUARE, RING, FOUR, (0, 3, 2, 1)), "composition": (RING,), "composition_through": (SQUARE, FOUR),
+        "shows_composition": (RING, SERIES), "factor_orders": (RING,),
+    },
+    "primes": {
+        "prime_part": (SQUARE, 2), "sylow_count": (ALTERNATING, 3), "sylow": (ALTERNATING, 2), "sylows": (ALTERNATING, 3),
+        "conjugate_into": (ALTERNATING, 3, (4, ()), (4, ((1, 2, 0, 3),))),
+        "frattini_split": (ALTERNATING, FOUR, 2, FOUR, (1, 2, 0, 3)), "roots_of_one": (SQUARE, 4), "rings": (SQUARE, 3),
+        "element_of_prime": (ALTERNATING, 3),
+    },
+    "hall": {
+        "hall": (ALTERNATING, (2, 5)), "derived_series": (SQUARE,), "is_solvable": (SQUARE,), "hall_gap": (SQUARE,),
+        "core_p": (ALTERNATING, 2), "lower_central": (SQUARE,), "upper_central": (SQUARE,), "is_nilpotent": (SQUARE,),
+    },
+    "transfers": {
+        "normal_complement": (ALTERNATING, 3), "is_central": (ALTERNATING, 3), "obstacle": (ALTERNATING, 2),
+        "shows_obstacle": (ALTERNATING, 2, (((0, 1, 2, 3), (1, 0, 3, 2), (2, 3, 0, 1), (3, 2, 1, 0)), (1, 2, 0, 3))),
+        "transfer": (SQUARE, RING, (0, 3, 2, 1)),
+    },
+    "homs": {
+        "extends": (RING, FLIP, SIGNS[:1]), "shows_not": (RING, RING, RING[1], SQUARED), "map_gap": (SQUARE, SQUARE, SQUARE[1][::-1]),
+        "carried": (SQUARE, FLIP, SIGNS, (0, 3, 2, 1)), "kernel": (SQUARE, FLIP, SIGNS), "image_group": (SQUARE, FLIP, SIGNS),
+        "preimage": (SQUARE, FLIP, SIGNS, (1, 0)), "quotient": (SQUARE, FOUR), "above_kernel": (SQUARE, FLIP, SIGNS),
+    },
+    "automorphisms": {
+        "isomorphism": (SQUARE, SQUARE), "shows_isomorphism": (SQUARE, SQUARE, SQUARE[1]), "difference": (RING, FOUR),
+        "automorphisms": (SQUARE,), "inner_automorphisms": (SQUARE,),
+    },
+    "products": {
+        "direct_product": (SQUARE, FLIP), "goursat": (FLIP, FLIP, (4, FOUR[1][:1])), "sections": (RING,),
+        "matched_subgroups": (RING, FLIP), "matched_count": (RING, FLIP),
+    },
+    "solutions": {
+        "count_images": (PRESENTED, SQUARE), "count_onto": (PRESENTED, SQUARE), "list_images": (PRESENTED, SQUARE),
+    },
 }
 
 ODD_ARGUMENTS = (
     None, True, False, 0, 1, -7, 10 ** 50, "", "(0 1)", "gen", (), (0,), (0, 1), (1, 0), ((0,),), (True,), [], [0, 1], {},
     {"a": 1}, ([],), ({},), (None, None), (4, ()), (4, [(0, 1, 2, 3)]), SQUARE, PAIRS, SQUARED, ((), ()), (("gen", []),),
     ((((0, [1]),),),), (2, {}), CHAIN, TURNS, LONGER[1:], ((0, (), ((0, []),)),), ((0, ({},), ()),), ((), 0), ((), [0]), {(0, 1): (1, 0)}, ["gen"], ("walks", ((0, [1]),)), ("blocks", [PAIRS]), ("orbit", {}),
+    PRESENTED, (1, ((1, 1),)), (1, ([1],)), (1, ({},)), [1, ((1,),)], TABLE, [TABLE], (TABLE[0], [2, 0], TABLE[2]), ((1, {}), (2, 0)), "rows", ["scans"],
+    ((1,), (2,)), ((1,), [2]), HALVES, SIGNS, ((1, 0), [1, 0]), ((1, 0), {}), (FOUR, [0]), (HALVES, (0, 1, 2, 3)), (HALVES, [0, 1]), ([], (0, 1)), SERIES,
+    (SERIES[0], [HALVES], TURNS), (SERIES[0], (TURNS[0], {}), TURNS), 2, 3, 5, (2, 3), (2, [3]), FLIP, 60 * (1,), (4, FOUR[1] * 7), 6 ** 50,
 )
 
 
