@@ -15,6 +15,7 @@ class Enumeration:
         self.heirs = [0]
         self.made = []
         self.fresh = []
+        self.merged = False
 
     def copied(self):
         """Return another object with the same rows."""
@@ -82,6 +83,7 @@ class Enumeration:
             one, other = pending.pop()
             low, high = sorted([self.heir(one), self.heir(other)])
             if low != high:
+                self.merged = True
                 self.heirs[high] = low
                 pending.extend(self.move(low, high))
 
@@ -112,6 +114,17 @@ class Enumeration:
                 if self.rows[row][column] is None:
                     break
                 self.scan(row, columns)
+
+    def settle(self, relators):
+        """Scan all relators at all rows until nothing changes; tell whether no rows are merged by that."""
+        while self.fresh:
+            self.fresh.clear()
+            for row in range(len(self.rows)):
+                for columns in relators:
+                    self.scan(row, columns)
+                    if self.merged:
+                        return False
+        return True
 
     def start(self, row, singles):
         """Scan the relators of one letter at a row; no entry has to be known for them."""

@@ -52,8 +52,8 @@ def matched_count(one, other):
     some, others = _kinds(one, most), _kinds(other, most)
     number = 0
     for factor, many in some:
-        for match, times in others:
-            number += many * times * len(isomorphisms(factor, match, MOST_ELEMENTS))
+        for fitting, times in others:
+            number += many * times * len(isomorphisms(factor, fitting, MOST_ELEMENTS))
     return number
 
 

@@ -6,10 +6,10 @@ from stronggens.checks import (
     MOST_GENERATORS, MOST_RELATORS, check_group, check_number, check_presentation, check_word, check_words,
     is_presentation,
 )
-from stronggens.enumerations import Enumeration, singles_of, turns_of
+from stronggens.enumerations import Enumeration
 from stronggens.errors import TooMany
 from stronggens.grids import check_table, found_rows, led, scanned
-from stronggens.letters import cancelled, column_of, inverted
+from stronggens.letters import cancelled, column_of, columns_of, inverted
 from stronggens.members import check_most, order_of
 from stronggens.programs import word_value
 from stronggens.quick import unit
@@ -91,11 +91,8 @@ def low_index(presentation, most):
     check_presentation(presentation)
     check_number(most, 1, MOST_INDEX)
     many, relators = presentation
-    turns, singles = turns_of(many, relators), singles_of(relators)
-    first = Enumeration(many)
-    first.start(0, singles)
-    first.follow(turns)
-    pending = [first]
+    scanning = [columns_of(relator) for relator in relators]
+    pending = [Enumeration(many)]
     found = []
     while pending:
         told = pending.pop()
@@ -105,7 +102,7 @@ def low_index(presentation, most):
             if len(found) > MOST_TABLES:
                 raise TooMany(MOST_TABLES)
         else:
-            pending.extend(_continued(told, entry, most, turns, singles))
+            pending.extend(_continued(told, entry, most, scanning))
     return sorted(found, key=lambda table: (len(table), table))
 
 
@@ -162,19 +159,17 @@ def _first_unknown(told):
     return None
 
 
-def _continued(told, entry, most, turns, singles):
+def _continued(told, entry, most, scanning):
     """Return what the enumeration becomes by each row that an entry may have, if no rows are merged by that."""
     row, column = entry
     found = []
     for target in range(min(len(told.rows) + 1, most)):
         twin = told.copied()
         if target == len(told.rows):
-            twin.start(twin.create(row, column), singles)
+            twin.create(row, column)
         elif told.rows[target][column ^ 1] is None:
             twin.know(row, column, target)
-        twin.follow(turns)
-        is_whole = all([twin.is_alive(number) for number in range(len(twin.rows))])
-        if is_whole and twin.rows[row][column] is not None:
+        if twin.rows[row][column] is not None and twin.settle(scanning):
             found.append(twin)
     return found
 

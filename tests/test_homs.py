@@ -3,7 +3,7 @@ import unittest
 
 from brute import ODD_VALUES, SQUARE, closure, cyc, expect, members, one, ring, run_steps, symmetric, times, turned
 from small import (
-    ALTERNATING_5, GREAT, QUATERNIONS, TOO_GREAT, UP_TO_24, UP_TO_60, all_subgroups, as_group, conj, normal_ones,
+    GREAT, TOO_GREAT, UP_TO_24, UP_TO_60, all_subgroups, as_group, conj, normal_ones,
 )
 from stronggens.errors import (
     BadGroup, BadImages, BadPermutation, NotExtending, NotMember, NotNormal, NotSubgroup, TooMany,

@@ -3,15 +3,14 @@ import unittest
 
 from brute import ODD_VALUES, SMALL, SQUARE, cyc, expect, members, one, ring, symmetric, times
 from small import (
-    ALTERNATING_5, FIVE_PAIRS, GREAT, QUATERNIONS, TOO_GREAT, UP_TO_24, UP_TO_60, all_subgroups, as_group, is_normal_in,
+    ALTERNATING_5, FIVE_PAIRS, GREAT, QUATERNIONS, TOO_GREAT, UP_TO_24, all_subgroups, as_group, is_normal_in,
 )
-from stronggens.automorphisms import isomorphism
 from stronggens.errors import BadGroup, NotSubgroup, TooMany
 from stronggens.products import direct_product, goursat, matched_count, matched_subgroups, sections
-from test_homs import mapping_of
 from test_primes import WRONG_GROUPS
 
 THREE, FLIP, FOUR = (3, ((1, 2, 0), (1, 0, 2))), (2, ((1, 0),)), (4, ((1, 0, 3, 2), (2, 3, 0, 1)))
+SWAPS_OF_6, SWAPS_OF_4 = (tuple(cyc(degree, (k, k + 1)) for k in range(0, degree, 2)) for degree in (6, 4))
 PAIR_FUNCTIONS = (direct_product, matched_subgroups, matched_count)
 
 
@@ -106,9 +105,10 @@ class TestMatched(unittest.TestCase):
     def test_both_agree(self):
         for one_group, other in pairs_of_groups(60):
             self.assertEqual(matched_count(one_group, other), len(matched_subgroups(one_group, other)))
-        for one_group, other in (((1, ()), ALTERNATING_5), (ALTERNATING_5, (1, ())), (FIVE_PAIRS, (2, ())), ((6, FOUR[1][:0] + tuple(
-                cyc(6, (2 * k, 2 * k + 1)) for k in range(3))), (4, tuple(cyc(4, (2 * k, 2 * k + 1)) for k in range(2)))),
-                ((7, (ring(7),)), (4, (ring(4), ring(4)))), ((5, (cyc(5, (0, 1, 2)), cyc(5, (0, 1)))), SQUARE), ((3, (ring(3),)), symmetric(3))):
+        three_pairs, two_pairs = (6, SWAPS_OF_6), (4, SWAPS_OF_4)
+        for one_group, other in (((1, ()), ALTERNATING_5), (ALTERNATING_5, (1, ())), (FIVE_PAIRS, (2, ())), (three_pairs, two_pairs),
+                                 ((7, (ring(7),)), (4, (ring(4), ring(4)))), ((5, (cyc(5, (0, 1, 2)), cyc(5, (0, 1)))), SQUARE),
+                                 ((3, (ring(3),)), symmetric(3))):
             self.assertEqual(matched_count(one_group, other), len(matched_subgroups(one_group, other)))
 
     def test_by_factor_groups(self):
