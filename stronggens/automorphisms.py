@@ -60,7 +60,6 @@ def automorphisms(group):
 
 def inner_automorphisms(group):
     """Return the ascending list of the generators conjugated by each element."""
-    check_group(group)
     rows = listed(group, MOST_ELEMENTS)
     return sorted(set([tuple([conjugated(p, g) for p in group[1]]) for g in rows]))
 

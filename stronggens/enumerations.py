@@ -199,11 +199,10 @@ def by_scans(presentation, words):
 
 def _draw(told, turns, scanning):
     """Have everything known that follows."""
-    told.follow(turns)
-    for columns in scanning:
-        told.scan(0, columns)
-    # Each change has made some entry known, merging included.
-    while told.fresh:
+    changed = True
+    while changed:
         told.follow(turns)
         for columns in scanning:
             told.scan(0, columns)
+        # Each change makes some entry known, merging included.
+        changed = len(told.fresh) > 0

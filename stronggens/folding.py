@@ -38,10 +38,7 @@ def free_program(many, words, word):
 
 def free_meet(many, one, other):
     """Return the partial table of the words that are in both of two subgroups."""
-    _check(many, one)
-    check_words(many, other)
-    pairs = met_rows(folded(many, one), folded(many, other))
-    return numbered(trimmed(pairs))
+    return numbered(trimmed(met_rows(folded(many, one), folded(many, other))))
 
 
 def separated(many, words, word):

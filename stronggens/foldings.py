@@ -16,15 +16,13 @@ def folded_rows(many, words):
 def trimmed(rows):
     """Return the rows, but entries that lead to or from a row other than row 0 with no other entry are None."""
     rows = [list(row) for row in rows]
-    ends = [row for row in range(1, len(rows)) if _known_columns(rows[row])]
-    while ends:
-        row = ends.pop()
-        known = _known_columns(rows[row])
-        if row != 0 and len(known) == 1:
+    # Each row was reached from one ahead of it, so what hangs on a row alone is gone when its turn comes.
+    for row in reversed(range(1, len(rows))):
+        known = [column for column, target in enumerate(rows[row]) if target is not None]
+        if len(known) == 1:
             target = rows[row][known[0]]
             rows[row][known[0]] = None
             rows[target][known[0] ^ 1] = None
-            ends.append(target)
     return rows
 
 
@@ -55,10 +53,6 @@ def completed(rows, column):
     for row in rows:
         images.append(free.pop() if row[column] is None else row[column])
     return tuple(images)
-
-
-def _known_columns(row):
-    return [column for column, target in enumerate(row) if target is not None]
 
 
 class WordTape(Tape):

@@ -26,7 +26,6 @@ def hall(group, primes):
 
 def hall_gap(group):
     """Return the first tuple of primes that divide the order for which hall is None, None if there is none."""
-    check_group(group)
     rows = listed(group, MOST_HALL)
     divisors = prime_divisors(len(rows))
     for size in range(len(divisors) + 1):
@@ -64,7 +63,6 @@ def lower_central(group):
 
 def upper_central(group):
     """Return the list of the identity alone and, behind each member, what commutes with all elements but for it."""
-    check_group(group)
     rows = listed(group, MOST_LISTED)
     members = [(unit(group[0]),)]
     wider = _central_above(group, rows, members[-1])

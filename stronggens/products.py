@@ -1,6 +1,6 @@
 """Direct products and their subgroups, by sections of the factors (E. Goursat, 1889)."""
 
-from stronggens.checks import MOST_DEGREE, MOST_GENERATORS, check_group
+from stronggens.checks import MOST_DEGREE, MOST_GENERATORS
 from stronggens.errors import TooMany
 from stronggens.frames import Frame, all_parts, is_normal
 from stronggens.mappings import factor_group, isomorphisms
@@ -20,7 +20,6 @@ def direct_product(one, other):
 
 def sections(group):
     """Return the list of the pairs of a subgroup and a normal subgroup of it, as element lists."""
-    check_group(group)
     return [(frame.written(upper), frame.written(lower)) for frame, upper, lower in _sections(group)]
 
 

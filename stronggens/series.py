@@ -1,8 +1,7 @@
 """Products of subgroups, and composition series."""
 
 from stronggens.checks import check_permutation
-from stronggens.errors import TooMany
-from stronggens.members import check_groups, check_most, check_normal, check_subgroup, order_of
+from stronggens.members import check_groups, check_most, check_normal, check_subgroup
 from stronggens.quick import compose, invert, unit
 from stronggens.spans import Span, is_element_list
 from stronggens.towers import listed, tower_of
@@ -75,8 +74,7 @@ def factor_orders(group):
 def _check_parts(group, one, other):
     check_subgroup(group, one)
     check_subgroup(group, other)
-    if order_of(group) > MOST_LISTED:
-        raise TooMany(MOST_LISTED)
+    check_most(group, MOST_LISTED)
 
 
 def _products(group, one, other):

@@ -103,6 +103,10 @@ class TestDefinitions(unittest.TestCase):
             made = definitions(told, (), method)
             self.assertEqual(made, plain_cosets(told, (), method)[1])
         self.assertGreater(len(definitions(abelian(3, 3, 3)[0], (), "rows")), 26)
+        # An entry from a row to itself goes to a row that has just the entry at the inverse letter.
+        self.check((2, ((-2,), (1, 2, 1, -2, -1, 2))), ())
+        self.check((2, ((-1, 1, -2),)), ((-2, -1, 2),))
+        self.check((2, ((-2, -1, 2), (1, -2, -1, 2, -2))), ((1, -1),))
         trivial = (2, ((1, 2, 1, -2), (2, 1, 1), (1, 1, 1, 2)))
         for method in METHODS:
             self.assertEqual(coset_table(trivial, (), method), plain_cosets(trivial, (), method)[0])

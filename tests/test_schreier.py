@@ -216,6 +216,10 @@ class TestSubgroupPresentations(unittest.TestCase):
 
     def test_too_many_relators(self):
         """Many relators, each of which is rewritten in another way from each of six rows."""
+        relators = tuple((1,) * k + (2,) * (60 - k) for k in range(1, 60))
+        told = (3, relators + ((3, 1),))
+        self.assertEqual(subgroup_presentation(told, ((1,), (2,))), told)
+        self.assertEqual(subgroup_presentation((2, relators), ((1,), (2,), (1, 2))), (2, relators))
         ring = ((1,) * 6, (1, 2, -1, -2))
         kinds = set()
         for many in range(6, 14):

@@ -112,6 +112,9 @@ class TestTooMany(unittest.TestCase):
         expect(self, TooMany, {"most": 2000}, list_images, (2, ()), ALTERNATING_5)
         expect(self, TooMany, {"most": 2000}, list_images, (11, ()), (2, ((1, 0),)))
         self.assertEqual(len(list_images((10, ()), (2, ((1, 0),)))), 1024)
+        ten_by_two = (9, (cyc(9, range(5)), cyc(9, (5, 6)), cyc(9, (7, 8))))
+        self.assertEqual(len(list_images((3, ((3,) * 5,)), ten_by_two)), 2000)
+        expect(self, TooMany, {"most": 2000}, list_images, (3, ((3,) * 10,)), ten_by_two)
         self.assertEqual(list_images((11, ((1,),)), (2, ()))[0], ((0, 1),) * 11)
 
 

@@ -131,6 +131,7 @@ class TestStandard(unittest.TestCase):
         for value in NO_TABLES:
             expect(self, BadTable, {}, standard, value)
             expect(self, BadTable, {}, table_map, value, None)
+            expect(self, BadTable, {}, table_map, value, TURNS)
             expect(self, BadTable, {}, table_map, TURNS, value)
 
 
