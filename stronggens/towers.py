@@ -29,10 +29,14 @@ class Floor:
 
 
 class Tower:
-    """A floor for each point of a row of all points: each one has the group that fixes the points ahead of its own."""
+    """A floor for each point of a row of points: each one has the group that fixes the points ahead of its own.
+
+    It is blind if some element but the identity fixes all of these points; such elements are left out.
+    """
 
     def __init__(self, degree, generators, points):
         self.one = unit(degree)
+        self.is_blind = False
         self.tape = Tape(self.one, generators)
         self.floors = [Floor(point, self.one) for point in points]
         for p in generators:
@@ -56,6 +60,9 @@ class Tower:
         """Have p, which is on the tape and fixes the points of the floors ahead, among the products of the floors."""
         rest, at, factors = self.sift(p, start)
         if rest == self.one:
+            return
+        if at == len(self.floors):
+            self.is_blind = True
             return
         for factor in factors:
             p = self.tape.times(p, factor)

@@ -263,6 +263,70 @@ raises BadPrime
 [4, 18, 18, [((0, 1, 2),), ((1, 2, 0),), ((2, 0, 1),)]]
 ''',
     ),
+    "complements": (
+        '''
+>>> from stronggens.complements import complement_of, complements, crossed_maps
+>>> three, normal, flip = (3, ((1, 2, 0), (1, 0, 2))), (3, ((1, 2, 0),)), (3, ((1, 0, 2),))
+>>> [complements(three, normal), crossed_maps(three, normal, flip), complement_of(three, normal, flip, ((0, 1, 2), (1, 2, 0)))]
+[[((0, 1, 2), (0, 2, 1)), ((0, 1, 2), (1, 0, 2)), ((0, 1, 2), (2, 1, 0))], [((0, 1, 2), (0, 1, 2)), ((0, 1, 2), (1, 2, 0)), ((0, 1, 2), (2, 0, 1))], ((0, 1, 2), (2, 1, 0))]
+''',
+    ),
+    "classes": (
+        '''
+>>> from stronggens.classes import class_constants, class_of, classes, commuting_pairs
+>>> group = (3, ((1, 2, 0), (1, 0, 2)))
+>>> [classes(group), commuting_pairs(group), class_of(group, (2, 0, 1)), class_constants(group)[1]]
+[[((0, 1, 2),), ((0, 2, 1), (1, 0, 2), (2, 1, 0)), ((1, 2, 0), (2, 0, 1))], 18, ((1, 2, 0), (2, 0, 1)), ((0, 1, 0), (3, 0, 3), (0, 2, 0))]
+''',
+    ),
+    "marks": (
+        '''
+>>> from stronggens.marks import marks, row_flaw, subgroup_classes, virtual_parts
+>>> pair = (2, ((1, 0),))
+>>> group = (3, ((1, 2, 0), (1, 0, 2)))
+>>> [subgroup_classes(pair), marks(group), virtual_parts(group, (5, -1, 2, 0)), row_flaw(group, (5, -1, 2, 0)), virtual_parts(group, (4, 1, 3, 1)), row_flaw(group, (4, 1, 3, 1))]
+[[(((0, 1),),), (((0, 1), (1, 0)),)], ((6, 0, 0, 0), (3, 1, 0, 0), (2, 0, 2, 0), (1, 1, 1, 1)), (1, -1, 1, 0), None, None, (0, 13, 6)]
+''',
+        '''
+>>> from stronggens.marks import gset_of, parts_of, row_of
+>>> group = (2, ((1, 0),))
+>>> [row_of(group, ((0, 2, 1),)), parts_of(group, ((0, 2, 1),)), gset_of(group, (1, 2))]
+[(3, 1), (1, 1), ((1, 0, 2, 3),)]
+''',
+    ),
+    "gsets": (
+        '''
+>>> from stronggens.gsets import coset_set, fixed_points, is_gset, stabilizer_of
+>>> group = (2, ((1, 0),))
+>>> gset = ((0, 2, 1),)
+>>> [is_gset(group, gset), is_gset(group, ((1, 2, 0),)), coset_set(group, (2, ())), fixed_points(group, gset, group), stabilizer_of(group, gset, 1)]
+[True, False, ((1, 0),), (0,), ((0, 1),)]
+''',
+        '''
+>>> from stronggens.gsets import gset_difference, same_characters, same_gsets
+>>> group = (2, ((1, 0),))
+>>> gset = ((0, 2, 1),)
+>>> [same_gsets(group, gset, ((1, 0, 2),)) in [(2, 0, 1), (2, 1, 0)], gset_difference(group, gset, ((0, 1, 2),)), same_characters(group, gset, ((0, 1, 2),))]
+[True, (((0, 1), (1, 0)), 1, 3), False]
+''',
+    ),
+    "gmaps": (
+        '''
+>>> from stronggens.gmaps import gset_product, induced, map_count, maps_of, restricted
+>>> pair = (2, ((1, 0),))
+>>> group = (3, ((1, 2, 0), (1, 0, 2)))
+>>> [gset_product(pair, ((1, 0),), ((0, 2, 1),)), map_count(pair, ((1, 0),), ((0, 2, 1),)), maps_of(pair, ((1, 0),), ((0, 2, 1),)), restricted(group, group[1], (3, ((0, 2, 1),))), induced(group, (3, ((1, 0, 2),)), ((1, 0),))]
+[((3, 5, 4, 0, 2, 1),), 3, [(0, 0), (1, 2), (2, 1)], ((0, 2, 1),), ((4, 5, 1, 0, 3, 2), (1, 0, 4, 5, 2, 3))]
+''',
+    ),
+    "moebius": (
+        '''
+>>> from stronggens.moebius import generating_tuples, moebius
+>>> group = (3, ((1, 2, 0), (1, 0, 2)))
+>>> [moebius(group)[0], moebius(group)[4], generating_tuples(group, 2), generating_tuples(group, 1)]
+[(((0, 1, 2),), 3), (((0, 1, 2), (1, 2, 0), (2, 0, 1)), -1), 18, 0]
+''',
+    ),
 }
 
 

@@ -239,7 +239,7 @@ class TestLanguage(unittest.TestCase):
             return parent.iter is node
         if isinstance(parent, ast.Compare):
             return called(node, {"range"}) and isinstance(parent.ops[0], (ast.In, ast.NotIn))
-        return called(parent, TAKERS) or called(node, {"range"}) and called(parent, {"reversed", "permutations", "len"})
+        return called(parent, TAKERS) or called(node, {"range"}) and called(parent, {"reversed", "permutations", "combinations", "len"})
 
     def test_sets(self):
         for path, tree in TREES.items():

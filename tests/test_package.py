@@ -63,6 +63,19 @@ INTERFACE = {
         matched_count(one,other)""",
     "solutions": """count_images(presentation,group) count_onto(presentation,group)
         list_images(presentation,group)""",
+    "complements": """complements(group,normal) crossed_maps(group,normal,complement)
+        complement_of(group,normal,complement,value)""",
+    "classes": "classes(group) class_of(group,p) commuting_pairs(group) class_constants(group)",
+    "marks": """subgroup_classes(group) marks(group) row_of(group,gset) parts_of(group,gset) gset_of(group,parts)
+        virtual_parts(group,row) row_flaw(group,row)""",
+    "gsets": """is_gset(group,value) coset_set(group,subgroup) fixed_points(group,gset,subgroup)
+        stabilizer_of(group,gset,point) same_gsets(group,one,other) gset_difference(group,one,other)
+        same_characters(group,one,other)""",
+    "gmaps": """gset_product(group,one,other) restricted(group,gset,subgroup) induced(group,subgroup,gset)
+        map_count(group,one,other) maps_of(group,one,other)""",
+    "moebius": "moebius(group) generating_tuples(group,many)",
+    "pointsets": """set_stabilizer(group,points) least_image(group,points) set_mover(group,points,other)
+        orbit_of_set(group,points) least_sets(group,size) set_counts(group)""",
 }
 
 PAIRS = ((0, 2), (1, 3))
@@ -79,6 +92,8 @@ SIGNS = ((1, 0), (1, 0))
 FOUR = (4, ((1, 0, 3, 2), (2, 3, 0, 1)))
 SERIES = ((TURNS[0],), HALVES, TURNS)
 ALTERNATING = (4, ((1, 2, 0, 3), (0, 2, 3, 1)))
+MIRROR = (4, ((0, 3, 2, 1),))
+MOVES = ((3, 0, 1, 2), (0, 3, 2, 1))
 
 # For each function some arguments of the right kinds.
 CALLS = {
@@ -191,6 +206,31 @@ CALLS = {
     "solutions": {
         "count_images": (PRESENTED, SQUARE), "count_onto": (PRESENTED, SQUARE), "list_images": (PRESENTED, SQUARE),
     },
+    "complements": {
+        "complements": (SQUARE, RING), "crossed_maps": (SQUARE, RING, MIRROR),
+        "complement_of": (SQUARE, RING, MIRROR, (TURNS[0], TURNS[2])),
+    },
+    "classes": {
+        "classes": (SQUARE,), "class_of": (SQUARE, (0, 3, 2, 1)), "commuting_pairs": (SQUARE,), "class_constants": (SQUARE,),
+    },
+    "marks": {
+        "subgroup_classes": (SQUARE,), "marks": (SQUARE,), "row_of": (SQUARE, MOVES), "parts_of": (SQUARE, MOVES),
+        "gset_of": (FLIP, (2, 3)), "virtual_parts": (FLIP, (4, -2)), "row_flaw": (FLIP, (4, -1)),
+    },
+    "gsets": {
+        "is_gset": (SQUARE, MOVES), "coset_set": (SQUARE, MIRROR), "fixed_points": (SQUARE, MOVES, MIRROR),
+        "stabilizer_of": (SQUARE, MOVES, 2), "same_gsets": (SQUARE, MOVES, SQUARE[1]),
+        "gset_difference": (SQUARE, MOVES, SIGNS), "same_characters": (SQUARE, MOVES, SQUARE[1]),
+    },
+    "gmaps": {
+        "gset_product": (SQUARE, MOVES, SIGNS), "restricted": (SQUARE, MOVES, MIRROR), "induced": (SQUARE, MIRROR, FLIP[1]),
+        "map_count": (SQUARE, MOVES, SIGNS), "maps_of": (SQUARE, MOVES, SQUARE[1]),
+    },
+    "moebius": {"moebius": (SQUARE,), "generating_tuples": (SQUARE, 3)},
+    "pointsets": {
+        "set_stabilizer": (SQUARE, (0, 2)), "least_image": (SQUARE, (1, 2)), "set_mover": (SQUARE, (0, 1), (2, 3)),
+        "orbit_of_set": (SQUARE, (0, 2)), "least_sets": (SQUARE, 2), "set_counts": (SQUARE,),
+    },
 }
 
 ODD_ARGUMENTS = (
@@ -200,6 +240,7 @@ ODD_ARGUMENTS = (
     PRESENTED, (1, ((1, 1),)), (1, ([1],)), (1, ({},)), [1, ((1,),)], TABLE, [TABLE], (TABLE[0], [2, 0], TABLE[2]), ((1, {}), (2, 0)), "rows", ["scans"],
     ((1,), (2,)), ((1,), [2]), HALVES, SIGNS, ((1, 0), [1, 0]), ((1, 0), {}), (FOUR, [0]), (HALVES, (0, 1, 2, 3)), (HALVES, [0, 1]), ([], (0, 1)), SERIES,
     (SERIES[0], [HALVES], TURNS), (SERIES[0], (TURNS[0], {}), TURNS), 2, 3, 5, (2, 3), (2, [3]), FLIP, 60 * (1,), (4, FOUR[1] * 7), 6 ** 50,
+    MOVES, [MOVES[0], MOVES[1]], (MOVES[0], [0]), MIRROR, (2, -1), (2, [1]), (2, True), ((), ()), ((0, 2), [1]), (TURNS[0], {}), (TURNS[0], [TURNS[1]]), 20, 60,
 )
 
 
