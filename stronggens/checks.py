@@ -13,6 +13,7 @@ MOST_STEPS = 2000
 MOST_RELATORS = 60
 MOST_WORDS = 6
 MOST_LETTERS_OF_WORDS = 36
+MOST_CONJUGATED = 6
 
 
 def is_between(value, low, high):

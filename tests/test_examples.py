@@ -327,6 +327,21 @@ raises BadPrime
 [(((0, 1, 2),), 3), (((0, 1, 2), (1, 2, 0), (2, 0, 1)), -1), 18, 0]
 ''',
     ),
+    "sessions": (
+        '''
+>>> from stronggens.sessions import Session
+>>> session = Session()
+>>> told = session.run("let g 4 (0 1 2 3), (0 1)\\nfix g 0 h\\n\\norder h")
+>>> [told, session.names(), session.trial("orbit h 1"), session.undo(), session.names()]
+[[None, 6, 6], ('g', 'h'), [(1, 2, 3)], True, ()]
+''',
+        '''
+>>> from stronggens.sessions import Session
+>>> session = Session()
+>>> session.run("let g 3 (0 1)\\n\\norder h")
+raises InvalidCommand(3, 7)
+''',
+    ),
 }
 
 

@@ -208,7 +208,6 @@ class TestLanguage(unittest.TestCase):
             self.assertIsNone(node.cause, place)
         for place, node in self.each(ast.ExceptHandler):
             self.assertTrue(isinstance(node.type, ast.Name) and node.type.id in kinds, place)
-            self.assertIsNone(node.name, place)
 
     def test_is(self):
         for place, node in self.each(ast.Compare):

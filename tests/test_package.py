@@ -76,6 +76,14 @@ INTERFACE = {
     "moebius": "moebius(group) generating_tuples(group,many)",
     "pointsets": """set_stabilizer(group,points) least_image(group,points) set_mover(group,points,other)
         orbit_of_set(group,points) least_sets(group,size) set_counts(group)""",
+    "backtrack": "meet(group,other) carry_tuple(group,points,images)",
+    "conjugates": "conjugating(group,some,other) least_conjugate(group,some) commuting(group,some)",
+    "doublecosets": "double_coset(left,right,p) double_path(left,right,p,q) double_cosets(group,left,right)",
+    "graphs": "graph_group(graph) canonical_graph(graph) graph_map(graph,other)",
+    "abelian": """diagonal(matrix) shows_diagonal(matrix,value) solve(matrix,target)
+        shows_answer(matrix,target,value)""",
+    "factors": """factors_of(group) basis_of(group) abelian_map(group,other) quotient_factors(group)
+        presentation_factors(presentation) cyclic_images(presentation,many)""",
 }
 
 PAIRS = ((0, 2), (1, 3))
@@ -94,6 +102,9 @@ SERIES = ((TURNS[0],), HALVES, TURNS)
 ALTERNATING = (4, ((1, 2, 0, 3), (0, 2, 3, 1)))
 MIRROR = (4, ((0, 3, 2, 1),))
 MOVES = ((3, 0, 1, 2), (0, 3, 2, 1))
+GRAPH = (4, ((0, 1), (1, 2), (2, 3)))
+MATRIX = ((2, 4), (6, 8))
+METHODS = {"run": ("text",), "trial": ("text",), "names": (), "group_of": ("name",), "load": ("groups",), "undo": ()}
 
 # For each function some arguments of the right kinds.
 CALLS = {
@@ -231,6 +242,23 @@ CALLS = {
         "set_stabilizer": (SQUARE, (0, 2)), "least_image": (SQUARE, (1, 2)), "set_mover": (SQUARE, (0, 1), (2, 3)),
         "orbit_of_set": (SQUARE, (0, 2)), "least_sets": (SQUARE, 2), "set_counts": (SQUARE,),
     },
+    "backtrack": {"meet": (SQUARE, RING), "carry_tuple": (SQUARE, (0, 1, 0), (2, 1, 2))},
+    "conjugates": {
+        "conjugating": (SQUARE, SQUARE[1], MOVES), "least_conjugate": (SQUARE, SQUARE[1]), "commuting": (SQUARE, MOVES),
+    },
+    "doublecosets": {
+        "double_coset": (SQUARE, MIRROR, (1, 0, 2, 3)), "double_path": (SQUARE, RING, (1, 0, 2, 3), (0, 1, 3, 2)),
+        "double_cosets": (SQUARE, MIRROR, MIRROR),
+    },
+    "graphs": {"graph_group": (GRAPH,), "canonical_graph": (GRAPH,), "graph_map": (GRAPH, (4, ((0, 2), (1, 2), (1, 3))))},
+    "abelian": {
+        "diagonal": (MATRIX,), "shows_diagonal": (MATRIX, (((1, 0), (3, -1)), ((2, 0), (0, 4)), ((1, -2), (0, 1)))),
+        "solve": (MATRIX, (2, 6)), "shows_answer": (MATRIX, (1, 0), ("obstacle", (1, 0), 2)),
+    },
+    "factors": {
+        "factors_of": (FOUR,), "basis_of": (RING,), "abelian_map": (FOUR, FOUR), "quotient_factors": (SQUARE,),
+        "presentation_factors": (PRESENTED,), "cyclic_images": (PRESENTED, 6),
+    },
 }
 
 ODD_ARGUMENTS = (
@@ -241,6 +269,8 @@ ODD_ARGUMENTS = (
     ((1,), (2,)), ((1,), [2]), HALVES, SIGNS, ((1, 0), [1, 0]), ((1, 0), {}), (FOUR, [0]), (HALVES, (0, 1, 2, 3)), (HALVES, [0, 1]), ([], (0, 1)), SERIES,
     (SERIES[0], [HALVES], TURNS), (SERIES[0], (TURNS[0], {}), TURNS), 2, 3, 5, (2, 3), (2, [3]), FLIP, 60 * (1,), (4, FOUR[1] * 7), 6 ** 50,
     MOVES, [MOVES[0], MOVES[1]], (MOVES[0], [0]), MIRROR, (2, -1), (2, [1]), (2, True), ((), ()), ((0, 2), [1]), (TURNS[0], {}), (TURNS[0], [TURNS[1]]), 20, 60,
+    GRAPH, (4, [(0, 1)]), (4, ((0, [1]),)), (4, ({},)), MATRIX, [MATRIX], (MATRIX[0], [6, 8]), ((2, 4), (6, {})), (MATRIX, MATRIX, MATRIX), (MATRIX, [MATRIX], 0),
+    ("obstacle", (1, 0), 2), ("obstacle", [1, 0], {}), ("solution", (1, 0)), ("solution", [1]), ("obstacle", {}, 2), ({}, (1, 0)), ("order g", "let g 3"),
 )
 
 
@@ -314,6 +344,34 @@ class TestAnswers(unittest.TestCase):
         except GroupError as error:
             return type(error), vars(error)
         return None
+
+
+class TestSession(unittest.TestCase):
+    """The same for the one class of the interface."""
+
+    def method(self, name):
+        sessions = importlib.import_module("stronggens.sessions")
+        session = sessions.Session()
+        session.run("let g 4 (0 1 2 3)")
+        return session, getattr(session, name)
+
+    def test_names_and_arguments(self):
+        sessions = importlib.import_module("stronggens.sessions")
+        self.assertEqual(str(inspect.signature(sessions.Session)), "()")
+        for name, words in METHODS.items():
+            self.assertEqual(tuple(inspect.signature(vars(sessions.Session)[name]).parameters), ("self",) + words)
+
+    def test_any_value_for_any_argument(self):
+        for name, words in METHODS.items():
+            for value in ODD_ARGUMENTS if words else ():
+                session, method = self.method(name)
+                before = repr(value)
+                try:
+                    method(value)
+                except GroupError as error:
+                    self.assertIs(type(error).__base__, GroupError)
+                    self.assertEqual((session.names(), session.group_of("g")), (("g",), RING))
+                self.assertEqual(repr(value), before, name)
 
 
 class TestIntegers(unittest.TestCase):
