@@ -57,5 +57,7 @@ def _points(degree, some):
     rows = sorted([list(reached(point, some, act_on_point)) for point in range(degree)], key=lambda row: -len(row))
     points = []
     for row in rows:
-        points.extend([point for point in row if point not in points])
+        for point in row:
+            if point not in points:
+                points.append(point)
     return points

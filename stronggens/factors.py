@@ -30,8 +30,6 @@ def basis_of(group):
 
 def abelian_map(group, other):
     """Return images of the generators of an abelian group by an isomorphism to another, None if there is none."""
-    _check_abelian(group)
-    _check_abelian(other)
     if factors_of(group) != factors_of(other):
         return None
     table = Mapping(group[0], other[0], _basis(group), _basis(other)).table
@@ -50,8 +48,6 @@ def presentation_factors(presentation):
     """Return the factors of the abelian quotient of a presented group, and how many infinite cyclic groups it has."""
     check_presentation(presentation)
     many, relators = presentation
-    if many == 0:
-        return (), 0
     rows = [_sums(many, word) for word in relators]
     found = [entry for entry in Reduction([*rows, [0] * many]).diagonal_entries() if entry != 0]
     return tuple([entry for entry in found if entry > 1]), many - len(found)

@@ -70,7 +70,9 @@ def _points(graph):
             at = len(points)
             points.append(start)
             while at < len(points):
-                points.extend([node for node in neighbors[points[at]] if node not in points])
+                for node in neighbors[points[at]]:
+                    if node not in points:
+                        points.append(node)
                 at += 1
     return points
 

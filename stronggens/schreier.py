@@ -8,7 +8,7 @@ from stronggens.checks import (
 )
 from stronggens.enumerations import Enumeration
 from stronggens.errors import TooMany
-from stronggens.grids import check_table, found_rows, led, scanned
+from stronggens.grids import check_table, found_rows, led, numbered, scanned
 from stronggens.letters import cancelled, column_of, columns_of, inverted
 from stronggens.members import check_most, order_of
 from stronggens.programs import word_value
@@ -92,13 +92,14 @@ def low_index(presentation, most):
     check_number(most, 1, MOST_INDEX)
     many, relators = presentation
     scanning = [columns_of(relator) for relator in relators]
+    order = _tied_first(many, relators)
     pending = [Enumeration(many)]
     found = []
     while pending:
         told = pending.pop()
-        entry = _first_unknown(told)
+        entry = _first_unknown(told, order)
         if entry is None:
-            found.append(tuple([tuple(row) for row in told.rows]))
+            found.append(numbered(told.rows))
             if len(found) > MOST_TABLES:
                 raise TooMany(MOST_TABLES)
         else:
@@ -152,10 +153,27 @@ def _rewritten(table, letters, row, word):
     return cancelled(made)
 
 
-def _first_unknown(told):
-    for row, targets in enumerate(told.rows):
-        if None in targets:
-            return row, targets.index(None)
+def _tied_first(many, relators):
+    """Return the list of all generators; those that relators tie to no or few others come ahead."""
+    rows = sorted([sorted(set([abs(letter) for letter in relator])) for relator in relators], key=lambda row: len(row))
+    order = []
+    for row in [*rows, list(range(1, many + 1))]:
+        for letter in row:
+            if letter not in order:
+                order.append(letter)
+    return order
+
+
+def _first_unknown(told, order):
+    """Return the first entry that is unknown, generator by generator, None if there is none.
+
+    What the relators of the first generators forbid is then seen before the other generators are tried.
+    """
+    for letter in order:
+        for column in (column_of(letter), column_of(-letter)):
+            for row, targets in enumerate(told.rows):
+                if targets[column] is None:
+                    return row, column
     return None
 
 

@@ -14,16 +14,14 @@ class Inside:
         self.one = unit(group[0])
 
     def opening(self):
-        """Return an element that carries no point yet, and its inverse."""
-        return self.one, self.one
+        """Return the inverse of an element that carries the points as told so far: of the identity."""
+        return self.one
 
     def after(self, known, depth, image):
-        """Return an element that carries one point more as told, and its inverse; None if there is none."""
-        carry, back = known
+        """Return the inverse of an element that carries one point more as told, None if there is none."""
         floor = self.floors[depth]
-        if back[image] not in floor.forth:
-            return None
-        return compose(floor.forth[back[image]], carry), compose(back, floor.back[back[image]])
+        before = known[image]
+        return compose(known, floor.back[before]) if before in floor.back else None
 
 
 class Alike:

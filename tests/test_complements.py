@@ -2,11 +2,14 @@ import itertools
 import unittest
 
 from brute import ODD_VALUES, SQUARE, cyc, expect, members, one, ring, symmetric, times
-from small import TOO_GREAT, UP_TO_24, UP_TO_60, all_subgroups, as_group, conj, normal_ones
+from small import LINEAR_SL3, TOO_GREAT, UP_TO_24, UP_TO_60, all_subgroups, as_group, conj, normal_ones
 from stronggens.complements import complement_of, complements, crossed_maps
 from stronggens.errors import BadGroup, BadMap, NotComplement, NotNormal, NotSubgroup, TooMany
 from test_primes import WRONG_GROUPS
 
+# Normal subgroups that do not commute, with complements of more than two elements.
+TWO_THREES = (6, (cyc(6, (0, 1, 2)), cyc(6, (0, 1)), cyc(6, (3, 4, 5)), cyc(6, (3, 4))))
+UNLIKE = (LINEAR_SL3, TWO_THREES)
 THREE, TURNS, FLIP = symmetric(3), (3, (ring(3),)), (3, ((1, 0, 2),))
 BENT = ODD_VALUES + (((0, 1, 2),) * 3, ((0, 1, 2), (0, 1)), ((0, 1, 2), [0, 1, 2]), ((0, 1, 2), None), ((0, 1, 2),), [(0, 1, 2), (0, 1, 2)],
                      ((0, 1, 2), (1, 0, 2)), ((1, 2, 0), (0, 1, 2)), ((0, 1, 2), (True, 2, 0)), ((0, 1, 2), ({}, 1, 2)), ((0, 1, 2), (0, 1, 3)))
@@ -53,7 +56,7 @@ class TestComplements(unittest.TestCase):
 
 class TestCrossedMaps(unittest.TestCase):
     def test_one_for_each_complement(self):
-        for group, normal in cases(UP_TO_24 + UP_TO_60[-2:]):
+        for group, normal in cases(UP_TO_24 + UP_TO_60[-2:] + UNLIKE):
             found = plain_complements(group, normal)
             for complement in found[:2] + found[-1:]:
                 told = crossed_maps(group, as_group(normal), as_group(complement))
@@ -77,7 +80,7 @@ class TestCrossedMaps(unittest.TestCase):
         self.assertGreater(many, 30)
 
     def test_bent_values(self):
-        for group, normal in cases(UP_TO_24):
+        for group, normal in cases(UP_TO_24 + UNLIKE):
             rows = members(group)
             for complement in plain_complements(group, normal)[:1]:
                 told = crossed_maps(group, as_group(normal), as_group(complement))
@@ -126,6 +129,8 @@ class TestErrors(unittest.TestCase):
         for function in (crossed_maps, complement_of):
             # Ahead of NotNormal and of TooMany.
             expect(self, NotSubgroup, {}, function, THREE, FLIP, (4, ()), *[None] * (function is complement_of))
+            expect(self, NotSubgroup, {}, function, TURNS, FLIP, TURNS, *[None] * (function is complement_of))
+            expect(self, NotSubgroup, {}, function, TURNS, (4, ()), TURNS, *[None] * (function is complement_of))
             expect(self, NotSubgroup, {}, function, self.great, FLIP, (4, ()), *[None] * (function is complement_of))
             expect(self, NotSubgroup, {}, function, self.great, self.great, (4, ()), *[None] * (function is complement_of))
 

@@ -76,6 +76,7 @@ class TestDoubleCoset(unittest.TestCase):
         for value in ODD_VALUES + ((0, 1), (0, 1, 2, 3), (0, 1, True), [0, 1, 2]):
             expect(self, BadPermutation, {}, double_coset, THREE, FLIP, value)
             expect(self, BadPermutation, {}, double_path, THREE, FLIP, value, None)
+            expect(self, BadPermutation, {}, double_path, THREE, FLIP, value, one(3))
             expect(self, BadPermutation, {}, double_path, THREE, FLIP, one(3), value)
             expect(self, BadPermutation, {}, double_path, symmetric(12), symmetric(12), one(12), value)
 

@@ -296,6 +296,10 @@ class TestLowIndex(unittest.TestCase):
         expect(self, TooMany, {"most": 2000}, low_index, (12, ()), 6)
         expect(self, TooMany, {"most": 2000}, low_index, (11, ()), 2)
         self.assertEqual(len(low_index((10, ()), 2)), 1024)
+        # Two generators are tied by relators, which the ten others must not hide.
+        for most in (2, 3, 6):
+            expect(self, TooMany, {"most": 2000}, low_index, (12, ((1, 1, 1, 1), (2, 2), (1, 2, 1, 2))), most)
+            expect(self, TooMany, {"most": 2000}, low_index, (12, ((12,) * 4, (11, 11), (12, 11, 12, 11))), most)
         self.assertEqual(low_index((12, ()), 1), [((0,) * 24,)])
         self.assertEqual(low_index((12, tuple((k,) for k in range(1, 13))), 6), [((0,) * 24,)])
 
