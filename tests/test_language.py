@@ -262,6 +262,15 @@ class TestLanguage(unittest.TestCase):
             fits = isinstance(parent, (ast.Assign, ast.Compare)) or called(parent, {"sorted", "len"})
             self.assertTrue(fits, place)
 
+    def test_stars(self):
+        plain = (ast.Name, ast.Attribute, ast.Constant, ast.List, ast.Tuple)
+        for place, node in self.each(ast.Call):
+            stars = [arg.value for arg in node.args if isinstance(arg, ast.Starred)]
+            stars += [word.value for word in node.keywords if word.arg is None]
+            self.assertTrue(all(isinstance(value, plain) for value in stars), place)
+        for place, node in self.each(ast.Dict):
+            self.assertTrue(all(key is not None or isinstance(value, plain) for key, value in zip(node.keys, node.values)), place)
+
     def test_signs(self):
         for place, node in self.each(ast.Pow):
             self.fail(f"a power, in {place}")
