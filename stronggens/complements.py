@@ -58,7 +58,7 @@ def _complements(group, normal):
     numbers = [frame.numbers[p] for p in listed(normal, MOST_ELEMENTS)]
     size = len(frame.rows) // len(numbers)
     found = [part for part in all_parts(frame) if len(part.numbers) == size]
-    return [frame.written(part) for part in found if sum([part.holds(number) for number in numbers]) == 1]
+    return [frame.written(part) for part in found if len([n for n in numbers if part.holds(n)]) == 1]
 
 
 def _crossed_map(rows, normal, part):
